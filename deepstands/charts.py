@@ -1,0 +1,66 @@
+"""Charts: whether a thing is one, and what its stands are to one another."""
+
+from deepstands.checks import (
+    fact_wrong, first_wrong, great_wrong, happening_wrong, marker_wrong, name_wrong, outline_wrong, root_wrong,
+    stand_wrong, twice_wrong,
+)
+from deepstands.errors import NoChart, NoMove, NoName
+from deepstands.kinds import is_whole, own
+from deepstands.tree import Tree
+
+
+def chart_wrong(thing):
+    """None where the thing is a chart, else the first that is wrong with it."""
+    return (
+        outline_wrong(thing) or fact_wrong(thing) or happening_wrong(thing) or stand_wrong(thing)
+        or great_wrong(thing) or twice_wrong(thing) or root_wrong(thing) or first_wrong(thing)
+        or marker_wrong(thing) or name_wrong(thing)
+    )
+
+
+def tree_of(chart):
+    """The stands of a chart; what is no chart is refused."""
+    wrong = chart_wrong(chart)
+    if wrong is not None:
+        raise NoChart(wrong)
+    return Tree(chart[2])
+
+
+def known(tree, name):
+    """The name, which must be a stand's."""
+    if not tree.knows(name):
+        raise NoName(own(name))
+    return name
+
+
+def names_of(chart):
+    """The names of the stands, in the chart's order."""
+    return tree_of(chart).names
+
+
+def parent_of(chart, name):
+    """The stand that the named one stands straight in, None of the root."""
+    tree = tree_of(chart)
+    return tree.parent(known(tree, name))
+
+
+def sort_of(chart, name):
+    """The sort of the named stand."""
+    tree = tree_of(chart)
+    return tree.sort_of(known(tree, name))
+
+
+def within(chart, one, other):
+    """Whether the second stands properly in the first."""
+    tree = tree_of(chart)
+    return tree.has(known(tree, one), known(tree, other))
+
+
+def room_of(chart, name, move):
+    """The room of a stand's move by its number, None of a move without goals."""
+    tree = tree_of(chart)
+    moves = tree.stands[known(tree, name)][5]
+    if not is_whole(move) or not 0 <= move < len(moves):
+        raise NoMove(own(move))
+    goals = moves[move][3]
+    return tree.room(name, goals) if goals else None
