@@ -1,29 +1,21 @@
 """Charts: whether a thing is one, and what its stands are to one another."""
 
-from deepstands.checks import (
-    fact_wrong, first_wrong, great_wrong, happening_wrong, marker_wrong, name_wrong, outline_wrong, root_wrong,
-    stand_wrong, twice_wrong,
-)
+from deepstands.checks import looked_over
 from deepstands.errors import NoChart, NoMove, NoName
 from deepstands.kinds import is_whole, own
-from deepstands.tree import Tree
 
 
 def chart_wrong(thing):
     """None where the thing is a chart, else the first that is wrong with it."""
-    return (
-        outline_wrong(thing) or fact_wrong(thing) or happening_wrong(thing) or stand_wrong(thing)
-        or great_wrong(thing) or twice_wrong(thing) or root_wrong(thing) or first_wrong(thing)
-        or marker_wrong(thing) or name_wrong(thing)
-    )
+    return looked_over(thing)[0]
 
 
 def tree_of(chart):
     """The stands of a chart; what is no chart is refused."""
-    wrong = chart_wrong(chart)
+    wrong, tree = looked_over(chart)
     if wrong is not None:
         raise NoChart(wrong)
-    return Tree(chart[2])
+    return tree
 
 
 def known(tree, name):

@@ -8,10 +8,11 @@ GREATEST = 999999999
 SORTS = ("one", "all", "leaf", "end", "back", "deep")
 FULL_SORTS = ("one", "all")
 MARKER_SORTS = ("back", "deep")
-KEYWORDS = (
-    "fact", "on", "one", "all", "leaf", "end", "back", "deep", "into", "out", "go", "after", "done", "if",
-    "do", "to", "set", "raise", "say", "in", "not", "and", "or", "yes",
-)
+KEYWORDS = {
+    "fact": True, "on": True, "one": True, "all": True, "leaf": True, "end": True, "back": True, "deep": True,
+    "into": True, "out": True, "go": True, "after": True, "done": True, "if": True, "do": True, "to": True,
+    "set": True, "raise": True, "say": True, "in": True, "not": True, "and": True, "or": True, "yes": True,
+}
 
 
 def is_whole(thing):
@@ -21,15 +22,18 @@ def is_whole(thing):
 
 def is_name(thing):
     """Whether it is a NAME."""
-    if not isinstance(thing, str) or thing == "" or len(thing) > MOST_SIGNS or thing in KEYWORDS:
+    if not isinstance(thing, str) or len(thing) > MOST_SIGNS or thing in KEYWORDS:
         return False
-    return thing[0] in LETTERS and all([sign in LETTERS + FIGURES for sign in thing])
+    # An identifier begins with no figure; isalnum leaves its underscores out, islower its great letters.
+    return thing.isascii() and thing.isidentifier() and thing.isalnum() and thing.islower()
 
 
 def own(thing):
-    """A copy of which every list is a new one: what an error tells doesn't change with what was handed in."""
+    """The thing, where it has a list in it a copy of which every list is a new one: what an error tells doesn't change
+    with what was handed in."""
     waiting = [(thing, False)]
     made = []
+    has_list = False
     while waiting:
         part, opened = waiting.pop()
         if not isinstance(part, (list, tuple)):
@@ -40,6 +44,7 @@ def own(thing):
             del made[start:]
             made.append(parts if isinstance(part, list) else tuple(parts))
         else:
+            has_list = has_list or isinstance(part, list)
             waiting.append((part, True))
             waiting.extend([(inner, False) for inner in part[::-1]])
-    return made[0]
+    return made[0] if has_list else thing

@@ -3,29 +3,37 @@
 from deepstands.kinds import MARKER_SORTS
 
 
+def is_shaped(thing):
+    """Whether it is a tuple of six with a tuple where the stands in it are."""
+    return isinstance(thing, tuple) and len(thing) == 6 and isinstance(thing[2], tuple)
+
+
 def walk(root):
-    """The stands in the chart's order, tuples (stand, path), path the names of all that have it in them, from the
-    root on."""
-    found = []
+    """The stands in the chart's order, and for each the names of all that have it in them, from the root on; None
+    where one isn't shaped like a stand."""
+    stands, paths = [], []
     waiting = [(root, ())]
     while waiting:
         stand, path = waiting.pop()
-        found.append((stand, path))
-        waiting.extend([(inner, path + (stand[0],)) for inner in stand[2][::-1]])
-    return found
+        if not is_shaped(stand):
+            return None
+        stands.append(stand)
+        paths.append(path)
+        if stand[2]:
+            path_within = path + (stand[0],)
+            waiting.extend([(inner, path_within) for inner in stand[2][::-1]])
+    return stands, paths
 
 
 class Tree:
-    """The stands under a root, no two of one name."""
+    """Stands in the chart's order, each with the names of all that have it in them; no two of one name."""
 
-    def __init__(self, root):
-        self.names = []
-        self.stands = {}
-        self.paths = {}
-        for stand, path in walk(root):
-            self.names.append(stand[0])
-            self.stands[stand[0]] = stand
-            self.paths[stand[0]] = path
+    def __init__(self, stands, paths):
+        # The root is one deep.
+        self.deep = max([len(path) for path in paths]) + 1
+        self.names = [stand[0] for stand in stands]
+        self.stands = dict(zip(self.names, stands))
+        self.paths = dict(zip(self.names, paths))
 
     def knows(self, name):
         """Whether a stand has this name; it may be anything."""

@@ -17,7 +17,8 @@ BUILTINS = set(
 METHODS = set(
     "append clear copy count endswith extend find get index insert isalnum isalpha isdigit islower isspace isupper"
     " items join keys ljust lower lstrip partition pop remove replace reverse rfind rjust rpartition rsplit rstrip"
-    " setdefault split splitlines startswith strip update upper values zfill bit_length add discard sort".split()
+    " setdefault split splitlines startswith strip update upper values zfill bit_length add discard isascii isidentifier"
+    " removeprefix removesuffix isdecimal".split()
 )
 NEVER = set("register mro elements open input law version_info with_traceback add_note".split())
 NOT_IN_FILES = (
@@ -135,6 +136,26 @@ class TestLanguage(unittest.TestCase):
             for node in ast.walk(tree):
                 if isinstance(node, ast.Call) and isinstance(node.func, ast.Attribute):
                     self.assertIn(node.func.attr, METHODS | own | {"__init__"})
+
+    def test_no_name_is_a_method_and_an_attribute(self):
+        methods, attributes, read = set(), set(), set()
+        for _, _, tree in self.each():
+            for node in ast.walk(tree):
+                if isinstance(node, ast.ClassDef):
+                    methods |= {inner.name for inner in node.body if isinstance(inner, ast.FunctionDef)}
+                elif isinstance(node, ast.Attribute):
+                    (attributes if isinstance(node.ctx, ast.Store) else read).add(node.attr)
+        self.assertEqual(methods & attributes, set())
+        self.assertEqual(read - methods - attributes - METHODS, set())
+
+    def test_classes_that_compare(self):
+        """With __eq__ or __len__ in the package any, all and the like take lists, no generators, and no try is about
+        ValueError and its kin."""
+        for _, _, tree in self.each():
+            for node in ast.walk(tree):
+                self.assertNotIsInstance(node, (ast.GeneratorExp, ast.Try, ast.Yield))
+                if isinstance(node, ast.FunctionDef) and node.name == "__len__":
+                    self.assertEqual(node.body[-1].value.func.id, "len")
 
     def test_words(self):
         for _, text, tree in self.each():
