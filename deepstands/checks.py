@@ -1,13 +1,15 @@
-"""What chart_wrong looks for. Each function takes for granted that those ahead of it found nothing."""
+"""What chart_wrong looks for. Each function takes for granted that those ahead of it found nothing.
 
-from deepstands.kinds import FULL_SORTS, GREATEST, MARKER_SORTS, is_name, is_whole
+Nearly all charts that are handed in are right, so what is asked of a whole chart first is whether anything at all is
+wrong; only then the first such place is looked for."""
+
+from deepstands.kinds import FULL_SORTS, GREATEST, KEYWORDS, MARKER_SORTS, MOST_SIGNS, is_name, is_whole
 from deepstands.parts import DONE, Parts
-from deepstands.tree import Tree, is_shaped, walk
+from deepstands.tree import MOST_DEEP, Gathered, Tree
 
 MOST_FACTS = 12
 MOST_HAPPENINGS = 20
 MOST_STANDS = 60
-MOST_DEEP = 10
 MOST_MOVES = 120
 
 
@@ -46,44 +48,19 @@ def happening_wrong(chart):
     return None
 
 
+def are_names(texts):
+    """Whether all of these texts, one at least, are NAMES."""
+    for text in texts:
+        if len(text) > MOST_SIGNS or text in KEYWORDS or not text.isidentifier():
+            return False
+    # As in is_name, of all of them at once.
+    signs = "".join(texts)
+    return signs.isascii() and signs.isalnum() and signs.islower()
+
+
 def parts_of(chart):
     """Where to note what stands of the chart are made of."""
     return Parts(tuple([fact[0] for fact in chart[0]]), chart[1])
-
-
-def has_sort(stand):
-    """Whether its sort is one, and it has what a stand of this sort may have; what it has in it is a tuple."""
-    sort = stand[1]
-    if sort == "leaf" or sort == "end":
-        return not stand[2]
-    if sort == "one" or sort == "all":
-        return len(stand[2]) > 0
-    return (sort == "back" or sort == "deep") and stand[2:] == ((), (), (), ())
-
-
-def are_stands(stands, parts):
-    """Whether these are stands by their own form, but for the names that are noted in parts; each is shaped like one
-    (see is_shaped)."""
-    moves, deeds = [], []
-    for stand in stands:
-        into, out, more = stand[3:]
-        if not is_name(stand[0]) or not has_sort(stand):
-            return False
-        if not isinstance(into, tuple) or not isinstance(out, tuple) or not isinstance(more, tuple):
-            return False
-        deeds.extend(into)
-        deeds.extend(out)
-        moves.extend(more)
-    return parts.take(moves, deeds)
-
-
-def tree_with(chart, parts):
-    """The tree of the stands, None where one is none by its own form."""
-    found = walk(chart[2])
-    if found is None or not are_stands(found[0], parts):
-        return None
-    tree = Tree(found[0], found[1])
-    return tree if parts.has_names(tree.stands) else None
 
 
 def stand_wrong(chart):
@@ -91,19 +68,24 @@ def stand_wrong(chart):
     waiting = [((), chart[2])]
     while waiting:
         address, stand = waiting.pop()
+        gathered = Gathered()
         parts = parts_of(chart)
-        if not is_shaped(stand) or not are_stands([stand], parts) or not parts.has_names({}):
+        if not gathered.take(stand, ()) or not are_names(gathered.names):
+            return ("stand", address)
+        if not parts.take(gathered.moves, gathered.deeds) or not parts.has_names({}):
             return ("stand", address)
         inner = [(address + (k,), thing) for k, thing in enumerate(stand[2])]
         waiting.extend(inner[::-1])
     return None
 
 
-def great_wrong(chart, tree, parts):
+def great_wrong(chart, gathered):
     """Whether there is more of something than a chart may have."""
-    if len(chart[0]) > MOST_FACTS or len(chart[1]) > MOST_HAPPENINGS or len(tree.names) > MOST_STANDS:
+    if len(chart[0]) > MOST_FACTS or len(chart[1]) > MOST_HAPPENINGS or len(gathered.names) > MOST_STANDS:
         return ("great",)
-    return ("great",) if tree.deep > MOST_DEEP or parts.many_moves > MOST_MOVES else None
+    # The root is one deep.
+    deepest = max([len(path) for path in gathered.paths]) + 1
+    return ("great",) if deepest > MOST_DEEP or len(gathered.moves) > MOST_MOVES else None
 
 
 def first_again(names):
@@ -118,9 +100,9 @@ def first_again(names):
     return None
 
 
-def twice_wrong(chart, tree):
+def twice_wrong(chart, names):
     """The first name told twice: facts and stands share theirs, happenings have their own."""
-    name = first_again([fact[0] for fact in chart[0]] + tree.names)
+    name = first_again([fact[0] for fact in chart[0]] + names)
     if name is None:
         name = first_again(chart[1])
     return None if name is None else ("twice", name)
@@ -163,19 +145,30 @@ def marker_wrong(tree):
     return None
 
 
-def place_wrong(tree):
-    """What is wrong with the places of markers; most charts have none."""
-    sorts = [stand[1] for stand in tree.stands.values()]
+def has_place_for_all(stand):
+    """Whether a one or an all has stands as it may: a one another one than markers, and of these one of a sort; an all
+    no markers."""
+    sorts = [inner[1] for inner in stand[2]]
     if "back" not in sorts and "deep" not in sorts:
-        return None
-    return first_wrong(tree) or marker_wrong(tree)
+        return True
+    backs, deeps = sorts.count("back"), sorts.count("deep")
+    return stand[1] == "one" and backs <= 1 and deeps <= 1 and backs + deeps < len(sorts)
+
+
+def place_wrong(tree):
+    """What is wrong with the places of markers."""
+    for stand in tree.stands.values():
+        if stand[2] and not has_place_for_all(stand):
+            return first_wrong(tree) or marker_wrong(tree)
+    return None
 
 
 def are_together(tree, goals):
     """Whether any two of the goals can be entered together."""
     for at, goal in enumerate(goals):
-        if not all([tree.together(ahead, goal) for ahead in goals[:at]]):
-            return False
+        for ahead in goals[:at]:
+            if not tree.together(ahead, goal):
+                return False
     return True
 
 
@@ -186,7 +179,7 @@ def names_word(tree, parts):
     if parts.strange_happenings:
         return "happening"
     for name in parts.asked:
-        if name not in tree.stands or tree.is_marker(name):
+        if name not in tree.stands or tree.stands[name][1] in MARKER_SORTS:
             return "in"
     for goals in parts.goals:
         for goal in goals:
@@ -198,10 +191,8 @@ def names_word(tree, parts):
     return None
 
 
-def is_done_well(stand, moves):
-    """Whether none of the stand's moves is by a done that can't come."""
-    if DONE not in [move[0] for move in moves]:
-        return True
+def may_be_done(stand):
+    """Whether a done of the stand can come."""
     return stand[1] == "one" and "end" in [inner[1] for inner in stand[2]]
 
 
@@ -210,21 +201,31 @@ def row_word(chart, tree, stand, moves, deeds):
     parts = parts_of(chart)
     parts.take(moves, deeds)
     word = names_word(tree, parts)
-    return "done" if word is None and not is_done_well(stand, moves) else word
+    return "done" if word is None and parts.dones and not may_be_done(stand) else word
+
+
+def has_wrong_names(tree, parts):
+    """Whether any row of a stand names what isn't there, or may not be named there; parts are those of all."""
+    if names_word(tree, parts) is not None:
+        return True
+    dones = parts.dones
+    if dones:
+        for stand in tree.stands.values():
+            if stand[5] and may_be_done(stand):
+                dones -= [move[0] for move in stand[5]].count(DONE)
+    return dones > 0
 
 
 def name_wrong(chart, tree, parts):
     """The first row of a stand that names what isn't there, or may not be named there; parts are those of all."""
-    stands = list(tree.stands.values())
-    if names_word(tree, parts) is None:
-        if not parts.has_done or all([is_done_well(stand, stand[5]) for stand in stands]):
-            return None
-    for stand in stands:
+    if not has_wrong_names(tree, parts):
+        return None
+    for name, stand in tree.stands.items():
         rows = [((), stand[3]), ((), stand[4])] + [((move,), ()) for move in stand[5]]
         for k, row in enumerate(rows):
             word = row_word(chart, tree, stand, row[0], row[1])
             if word is not None:
-                return (word, stand[0], k)
+                return (word, name, k)
     return None
 
 
@@ -233,12 +234,15 @@ def looked_over(thing):
     wrong = outline_wrong(thing) or fact_wrong(thing) or happening_wrong(thing)
     if wrong is not None:
         return wrong, None
+    gathered = Gathered()
     parts = parts_of(thing)
-    tree = tree_with(thing, parts)
-    if tree is None:
+    if not gathered.take_all(thing[2]) or not are_names(gathered.names):
+        return stand_wrong(thing), None
+    tree = Tree(gathered.names, gathered.stands, gathered.paths)
+    if not parts.take(gathered.moves, gathered.deeds) or not parts.has_names(tree.stands):
         return stand_wrong(thing), None
     wrong = (
-        great_wrong(thing, tree, parts) or twice_wrong(thing, tree) or root_wrong(thing) or place_wrong(tree)
+        great_wrong(thing, gathered) or twice_wrong(thing, tree.names) or root_wrong(thing) or place_wrong(tree)
         or name_wrong(thing, tree, parts)
     )
     return wrong, tree

@@ -3,7 +3,7 @@
 Every chart that is handed in is looked over, so all parts of one kind are looked at together, those of terms and
 guards level by level: a call for each part would take longer than the looking itself."""
 
-from deepstands.kinds import GREATEST, is_name, is_whole
+from deepstands.kinds import GREATEST, is_name
 
 MOST_WITHIN = 10
 GREATEST_WAIT = 99
@@ -20,17 +20,17 @@ class Parts:
     def __init__(self, facts, happenings):
         self.facts = facts
         self.happenings = happenings
+        # Names of facts and happenings that aren't there, of stands asked for by in, of what is said, tuples of goals.
         self.strange_facts = []
         self.strange_happenings = []
         self.asked = []
-        self.words = []
+        self.words = {}
         self.goals = []
-        self.many_moves = 0
-        self.has_done = False
+        # How many moves are by a done.
+        self.dones = 0
 
     def take(self, moves, deeds):
         """Looks at moves and, besides theirs, at deeds."""
-        self.many_moves = len(moves)
         guards, terms = [], []
         all_deeds = list(deeds)
         return (
@@ -44,7 +44,20 @@ class Parts:
             if not isinstance(move, tuple) or len(move) != 4:
                 return False
             when, guard, more, goals = move
-            if not self.take_when(when) or not isinstance(more, tuple) or not isinstance(goals, tuple):
+            if not isinstance(more, tuple) or not isinstance(goals, tuple) or not isinstance(when, tuple):
+                return False
+            if len(when) == 2:
+                word, thing = when
+                if word == "on":
+                    if thing not in self.happenings:
+                        self.strange_happenings.append(thing)
+                elif word != "after" or not isinstance(thing, int) or isinstance(thing, bool):
+                    return False
+                elif not 1 <= thing <= GREATEST_WAIT:
+                    return False
+            elif when == DONE:
+                self.dones += 1
+            else:
                 return False
             # Most moves have no guard.
             if guard != YES:
@@ -54,38 +67,23 @@ class Parts:
                 self.goals.append(goals)
         return True
 
-    def take_when(self, when):
-        """Looks at what a move is by."""
-        if not isinstance(when, tuple):
-            return False
-        if len(when) == 2:
-            word, thing = when
-            if word == "on":
-                if thing not in self.happenings:
-                    self.strange_happenings.append(thing)
-                return True
-            return word == "after" and is_whole(thing) and 1 <= thing <= GREATEST_WAIT
-        if when == DONE:
-            self.has_done = True
-            return True
-        return False
-
     def take_deeds(self, deeds, terms):
         """Looks at deeds; their terms are put to the list."""
         for deed in deeds:
             if not isinstance(deed, tuple):
                 return False
-            if len(deed) == 3:
+            many = len(deed)
+            if many == 3:
                 word, name, term = deed
                 if word == "set":
                     if name not in self.facts:
                         self.strange_facts.append(name)
                 elif word != "say" or not isinstance(name, str):
                     return False
-                elif name not in self.words:
-                    self.words.append(name)
+                else:
+                    self.words[name] = True
                 terms.append(term)
-            elif len(deed) == 2:
+            elif many == 2:
                 word, name = deed
                 if word != "raise":
                     return False
@@ -98,13 +96,15 @@ class Parts:
     def take_levels(self, guards, terms):
         """Looks at guards and terms, and at all in them."""
         for _ in range(MOST_WITHIN):
-            if not guards and not terms:
-                return True
             guards_within, terms_within = [], []
-            if not self.take_guards(guards, guards_within, terms_within) or not self.take_terms(terms, terms_within):
+            if guards and not self.take_guards(guards, guards_within, terms_within):
                 return False
+            if terms and not self.take_terms(terms, terms_within):
+                return False
+            if not guards_within and not terms_within:
+                return True
             guards, terms = guards_within, terms_within
-        return not guards and not terms
+        return False
 
     def take_guards(self, guards, guards_within, terms_within):
         """Looks at guards; what stands straight in them is put to the lists."""
@@ -146,7 +146,9 @@ class Parts:
                 if word == "fact":
                     if thing not in facts:
                         self.strange_facts.append(thing)
-                elif word != "num" or not is_whole(thing) or not 0 <= thing <= GREATEST:
+                elif word != "num" or not isinstance(thing, int) or thing is True or thing is False:
+                    return False
+                elif thing < 0 or thing > GREATEST:
                     return False
             elif many == 3:
                 word, one, other = term
@@ -160,7 +162,7 @@ class Parts:
 
     def has_names(self, known):
         """Whether all that was noted are NAMES; those known are."""
-        for things in (self.strange_facts, self.strange_happenings, self.words, self.asked, *self.goals):
+        for things in (self.strange_facts, self.strange_happenings, list(self.words), self.asked, *self.goals):
             for thing in things:
                 if not isinstance(thing, str) or thing not in known and not is_name(thing):
                     return False

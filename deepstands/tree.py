@@ -1,39 +1,66 @@
-"""The stands of a chart by their names."""
+"""The stands of a chart, as they are met and by their names."""
 
-from deepstands.kinds import MARKER_SORTS
-
-
-def is_shaped(thing):
-    """Whether it is a tuple of six with a tuple where the stands in it are."""
-    return isinstance(thing, tuple) and len(thing) == 6 and isinstance(thing[2], tuple)
+MOST_DEEP = 10
 
 
-def walk(root):
-    """The stands in the chart's order, and for each the names of all that have it in them, from the root on; None
-    where one isn't shaped like a stand."""
-    stands, paths = [], []
-    waiting = [(root, ())]
-    while waiting:
-        stand, path = waiting.pop()
-        if not is_shaped(stand):
-            return None
-        stands.append(stand)
-        paths.append(path)
-        if stand[2]:
-            path_within = path + (stand[0],)
-            waiting.extend([(inner, path_within) for inner in stand[2][::-1]])
-    return stands, paths
+class Gathered:
+    """Stands as they are met, with all their moves and the deeds of their intos and outs.
+
+    What is told of a stand here says nothing yet of its name, its moves and its deeds."""
+
+    def __init__(self):
+        self.names = []
+        self.stands = []
+        self.paths = []
+        self.moves = []
+        self.deeds = []
+
+    def take(self, stand, path):
+        """Notes a stand; told is whether it is made as one of its sort is, whatever the stands in it are."""
+        if not isinstance(stand, tuple) or len(stand) != 6:
+            return False
+        name, sort, inner, into, out, moves = stand
+        if not isinstance(name, str) or not isinstance(inner, tuple) or not isinstance(moves, tuple):
+            return False
+        if not isinstance(into, tuple) or not isinstance(out, tuple):
+            return False
+        if sort == "leaf" or sort == "end":
+            if inner:
+                return False
+        elif sort == "one" or sort == "all":
+            if not inner:
+                return False
+        elif sort != "back" and sort != "deep" or inner or into or out or moves:
+            return False
+        self.names.append(name)
+        self.stands.append(stand)
+        self.paths.append(path)
+        self.moves.extend(moves)
+        self.deeds.extend(into)
+        self.deeds.extend(out)
+        return True
+
+    def take_all(self, root):
+        """Notes the root and all stands in it, in the chart's order; told is whether all are made as they are."""
+        waiting = [(root, ())]
+        while waiting:
+            stand, path = waiting.pop()
+            if not self.take(stand, path):
+                return False
+            if stand[2]:
+                # A thing may be as deep as it likes; a path that is too long already grows no more.
+                path_within = path if len(path) == MOST_DEEP else path + (stand[0],)
+                waiting.extend([(inner, path_within) for inner in stand[2][::-1]])
+        return True
 
 
 class Tree:
     """Stands in the chart's order, each with the names of all that have it in them; no two of one name."""
 
-    def __init__(self, stands, paths):
-        # The root is one deep.
-        self.deep = max([len(path) for path in paths]) + 1
-        self.names = [stand[0] for stand in stands]
-        self.stands = dict(zip(self.names, stands))
-        self.paths = dict(zip(self.names, paths))
+    def __init__(self, names, stands, paths):
+        self.names = names
+        self.stands = dict(zip(names, stands))
+        self.paths = dict(zip(names, paths))
 
     def knows(self, name):
         """Whether a stand has this name; it may be anything."""
@@ -42,10 +69,6 @@ class Tree:
     def sort_of(self, name):
         """The sort of a stand."""
         return self.stands[name][1]
-
-    def is_marker(self, name):
-        """Whether the stand is a marker."""
-        return self.sort_of(name) in MARKER_SORTS
 
     def parent(self, name):
         """The stand that it stands straight in, None of the root."""
@@ -60,8 +83,12 @@ class Tree:
         """Whether they lie within, or are, unlike stands straight in an all that has both."""
         if one == other or self.has(one, other) or self.has(other, one):
             return False
-        shared = [name for name in self.paths[one] if self.has(name, other)]
-        return self.sort_of(shared[-1]) == "all"
+        least = self.names[0]
+        for name, far in zip(self.paths[one], self.paths[other]):
+            if name != far:
+                break
+            least = name
+        return self.sort_of(least) == "all"
 
     def room(self, name, goals):
         """The least one that has the stand and all goals properly in it, else the root."""

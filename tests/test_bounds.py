@@ -3,10 +3,14 @@
 import unittest
 
 from deepstands.charts import chart_wrong, names_of, parent_of, room_of, within
-from deepstands.errors import NoText
+from deepstands.code import Coded, code, code_text, read_code
+from deepstands.errors import Endless, NoText
+from deepstands.runs import Run
+from deepstands.steps import standing_wrong, start, step
 from deepstands.texts import places_of, printed, read_chart
 
-from helpers import chart, guard_of, move, one, stand, term_of
+from helpers import both, chart, guard_of, move, one, stand, term_of
+from plain import Plain
 
 
 def greatest_chart():
@@ -71,3 +75,48 @@ class TestBounds(unittest.TestCase):
         told = chart(root)
         self.assertIsNone(chart_wrong(told))
         self.assertEqual(read_chart(printed(told)), told)
+
+    def test_the_greatest_chart_is_gone_by(self):
+        chart = greatest_chart()
+        plain = Plain(chart)
+        standing = plain.start()[0]
+        self.assertEqual(start(chart)[0], standing)
+        run, made = Run(chart), Coded(read_code(code_text(code(chart))))
+        self.assertEqual((run.standing(), made.standing()), (standing, standing))
+        for happening in ("h19", "h0", "tick"):
+            standing, said = plain.step(standing, happening)
+            self.assertEqual((run.tell(happening), made.tell(happening)), (said, said))
+            self.assertEqual((run.standing(), made.standing()), (standing, standing))
+            self.assertIsNone(standing_wrong(chart, standing))
+
+    def test_two_thousand_happenings(self):
+        text = ["fact n 0 9 0", "on h", "one r", "  leaf x", "    go on h if n < 9 do set n n + 1, say s n",
+                "    go after 2 do set n 0"]
+        run = Run(read_chart(text))
+        made = Coded(code(read_chart(text)))
+        for k in range(2000):
+            happening = "tick" if k % 11 == 10 else "h"
+            self.assertEqual(run.tell(happening), made.tell(happening))
+        self.assertEqual((len(run), len(made), len(run.said())), (2000, 2000, 2001))
+        self.assertEqual(run.said(), made.said())
+        self.assertEqual(run.standing(), (("r", "x"), (9,), (("x", 3),), ()))
+        for _ in range(2000):
+            run.back()
+        self.assertEqual((run.standing(), len(run)), ((("r", "x"), (0,), (("x", 0),), ()), 0))
+
+    def test_terms_and_guards_ten_deep_are_gone_by(self):
+        term = ("fact", "a")
+        for _ in range(9):
+            term = ("sum", term, ("num", 1))
+        guard = guard_of(8, ("same", ("num", 1), ("num", 1)))
+        told = chart(one("r", stand("x", moves=[(("on", "h"), guard_of(2, guard), (("say", "s", term),), ()),
+                                                (("on", "h"), guard, (("say", "s", term),), ())])))
+        self.assertIsNone(chart_wrong(told))
+        self.assertEqual(step(told, start(told)[0], "h")[1], Plain(told).step(start(told)[0], "h")[1])
+        self.assertEqual(Coded(code(told)).tell("h"), [("s", 10)])
+
+    def test_a_row_that_is_full_of_whats(self):
+        regions = [stand(f"x{k}", moves=[move(deeds=[("raise", "h")] * 9)]) for k in range(50)]
+        told = chart(both("r", *regions))
+        with self.assertRaises(Endless):
+            step(told, start(told)[0], "h")

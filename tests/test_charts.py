@@ -69,7 +69,8 @@ class TestForm(Wrongs):
 
     def test_names_and_sorts(self):
         self.leaf_is_wrong(*[stand(name) for name in (
-            "", "Z", "z_", "back", "yes", "abcdefghi", "0", None, 0, True, ("z",), ["z"],
+            "", "Z", "z_", "back", "yes", "abcdefghi", "0", None, 0, True, ("z",), ["z"], "\u00e9", "z\u00df", "z\u0661",
+            "zZ", "0z", "z z", " z", "z\n", "_", "_z",
         )])
         self.leaf_is_wrong(*[stand("z", sort) for sort in ("", "Leaf", "fact", None, 1, True, ("leaf",), ["leaf"])])
         self.right(rooted(stand("tick"), stand("z1234567")))
@@ -101,7 +102,8 @@ class TestForm(Wrongs):
         for deed in (
             None, "", 1, (), ("raise",), ("raise", "h", "h"), ("raise", 1), ("raise", "H"), ("raise", None),
             ("raise", ["h"]), ("set", "a"), ("set", "a", 1), ("set", "a", N1, N1), ("set", "A", N1), ("set", N1, "a"),
-            ("set", "a", YES), ("say", "a"), ("say", "end", N1), ("say", 1, N1), ("do", "a", N1), ("num", 1),
+            ("set", "a", YES), ("say", "a"), ("say", "end", N1), ("say", 1, N1), ("say", ["s"], N1),
+            ("say", None, N1), ("set", ["a"], N1), ("do", "a", N1), ("num", 1),
             (None, "a"), (["set"], "a", N1), ("yes",), ("on", "h"),
         ):
             self.leaf_is_wrong(stand("z", into=[("raise", "h"), deed]), stand("z", out=[deed]),
@@ -124,12 +126,13 @@ class TestForm(Wrongs):
         ):
             self.leaf_is_wrong(stand("z", moves=[move(when)]))
         self.right(rooted(stand("z", moves=[move(("after", 1)), move(("after", 99))])))
-        for goals in (None, "", "x", ["x"], 1, ("x", 1), ("X",), (None,), (("x",),), ("end",)):
+        for goals in (None, "", "x", ["x"], 1, ("x", 1), ("X",), (None,), (("x",),), ("end",), (["x"],), ("x", ["x"])):
             self.leaf_is_wrong(stand("z", moves=[(("on", "h"), YES, (), goals)]))
 
     def test_guards(self):
         for guard in (
-            None, True, "", "yes", (), ("yes", "yes"), ("no",), ("in",), ("in", 1), ("in", "X"), ("in", "x", "x"),
+            None, True, "", "yes", (), ("yes", "yes"), ("no",), ("in",), ("in", 1), ("in", ["x"]), ("in", "X"),
+            ("in", "x", "x"),
             ("in", "end"), ("in", YES), ("below",), ("below", N1), ("below", N1, N1, N1), ("below", YES, N1),
             ("below", N1, YES), ("below", 1, 2), ("same", N1), ("same", N1, "a"), ("same", N1, N1, N1), ("not",),
             ("not", YES, YES), ("not", N1), ("not", "yes"), ("both", YES), ("both", YES, N1), ("both", N1, YES),
@@ -140,7 +143,7 @@ class TestForm(Wrongs):
 
     def test_terms(self):
         for term in (
-            None, 1, True, "a", (), ("num",), ("num", -1), ("num", GREAT + 1), ("num", True), ("num", "1"),
+            None, 1, True, "a", (), ("num",), ("num", -1), ("num", GREAT + 1), ("num", True), ("num", False), ("num", "1"),
             ("num", None), ("num", 1, 1), ("num", N1), ("fact",), ("fact", 1), ("fact", "A"), ("fact", "a", "a"),
             ("sum", N1), ("sum", N1, 1), ("sum", 1, N1), ("sum", N1, N1, N1), ("less", N1), ("less", N1, YES),
             ("less", N1, N1, N1), YES, ("in", "x"), ("below", N1, N1), ("neg", N1), [], ["num", 1], ("set", "a", N1),
@@ -203,6 +206,8 @@ class TestBounds(Wrongs):
     def test_deep(self):
         self.right(chart(chain(10)), chart(chain(10, "all")))
         self.wrong(("great",), chart(chain(11)), chart(chain(11, "all")), chart(chain(61)), chart(chain(900)))
+        # However deep it is, it is looked over.
+        self.wrong(("great",), chart(chain(20000)))
 
     def test_moves(self):
         self.right(rooted(stand("x", moves=[move()] * 120)))
@@ -251,6 +256,7 @@ class TestNames(Wrongs):
         self.wrong(("marker", "d"), chart(both("r", stand("x"), one("p", stand("y"), back), deep)))
         self.wrong(("marker", "c"), rooted(back, stand("x"), stand("c", "back"), stand("e", "back")))
         self.wrong(("marker", "e"), rooted(stand("x"), deep, back, stand("e", "deep")))
+        self.wrong(("marker", "c"), rooted(stand("x"), back, deep, stand("c", "back")))
         self.wrong(("marker", "c"), rooted(back, both("p", stand("c", "back")), stand("e", "back")))
         inner = one("q", stand("y"), stand("e", "back"), stand("c", "back"))
         self.wrong(("marker", "c"), rooted(stand("x"), both("p", inner, back)))
@@ -311,6 +317,9 @@ class TestNames(Wrongs):
                    rooted(one("p", end), moves=[move(("done",))]),
                    chart(both("r", end, moves=[move(("done",))])))
         self.wrong(("done", "x", 2), rooted(end, stand("x", moves=[move(("done",))])))
+        self.wrong(("done", "x", 2), rooted(end, stand("x", moves=[move(("done",))]), moves=[move(("done",))]))
+        self.wrong(("happening", "r", 3), rooted(end, stand("x"), moves=[move(("done",)), move(("on", "k"))]))
+        self.wrong(("goal", "x", 2), rooted(end, stand("x", moves=[move(goals=["z"])]), moves=[move(("done",))] * 2))
         self.wrong(("done", "e", 3), rooted(stand("e", "end", moves=[move(), move(("done",))])))
 
     def test_words_of_one_row_in_their_order(self):

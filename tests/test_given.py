@@ -4,8 +4,8 @@ import copy
 import inspect
 import unittest
 
-from deepstands import charts, texts
-from deepstands.errors import NoMove, NoName
+from deepstands import charts, code, runs, steps, texts
+from deepstands.errors import NoHappening, NoMove, NoName
 
 from helpers import chart, move, one, stand
 
@@ -15,7 +15,14 @@ INTERFACE = {
     texts: {"read_chart": ["text"], "places_of": ["text"], "printed": ["chart"]},
     charts: {"chart_wrong": ["thing"], "names_of": ["chart"], "parent_of": ["chart", "name"],
              "sort_of": ["chart", "name"], "within": ["chart", "one", "other"], "room_of": ["chart", "name", "move"]},
+    steps: {"standing_wrong": ["chart", "thing"], "fits": ["chart", "standing", "what"],
+            "chosen": ["chart", "standing", "what"], "step": ["chart", "standing", "happening"], "start": ["chart"],
+            "trace": ["chart", "standing", "happening"], "trace_start": ["chart"]},
+    runs: {"Run": ["chart"]},
+    code: {"code": ["chart"], "code_text": ["code"], "read_code": ["text"], "Coded": ["code"]},
 }
+METHODS = {"tell": ["self", "happening"], "standing": ["self"], "said": ["self"], "back": ["self"], "copy": ["self"]}
+BEGIN = (("r", "x"), (1,), (), ())
 
 
 class TestTold(unittest.TestCase):
@@ -71,6 +78,10 @@ class TestTold(unittest.TestCase):
         inner.append("z")
         self.assertEqual(caught.exception.name, ["x"])
         self.assertEqual(other.exception.number, ("x", ["y"], [["y"]]))
+        with self.assertRaises(NoMove) as caught:
+            charts.room_of(CHART, "x", (inner, ("x",)))
+        inner.clear()
+        self.assertEqual(caught.exception.number, (["y", "z"], ("x",)))
 
     def test_what_is_refused_may_be_great(self):
         name = ["x"]
@@ -87,7 +98,64 @@ class TestTold(unittest.TestCase):
             self.assertEqual(charts.chart_wrong(((), (), None)), ("stand", ()))
 
 
+class TestToldOfSteps(unittest.TestCase):
+    def test_told_lists_that_are_changed(self):
+        asked = [
+            (lambda: steps.fits(CHART, BEGIN, ("on", "h")), [("r", 0), ("x", 0)]),
+            (lambda: steps.chosen(CHART, BEGIN, ("on", "h")), [("x", 0)]),
+            (lambda: steps.step(CHART, BEGIN, "h")[1], []),
+            (lambda: steps.start(CHART)[1], []),
+            (lambda: steps.trace(CHART, BEGIN, "h"), [(("on", "h"), [("x", 0)], [], [])]),
+            (lambda: steps.trace(CHART, BEGIN, "h")[0][1], [("x", 0)]),
+            (lambda: steps.trace_start(CHART), [(("start",), [], [], ["r", "x"])]),
+            (lambda: steps.trace_start(CHART)[0][3], ["r", "x"]),
+        ]
+        for ask, wanted in asked * 2:
+            told = ask()
+            self.assertEqual(told, wanted)
+            self.assertIsInstance(told, list)
+            told.append("spoiled")
+            told[0] = "spoiled"
+            self.assertEqual(ask(), wanted)
+        rows = code.code(CHART)
+        kept = list(rows)
+        rows.pop()
+        self.assertEqual(code.code(CHART), kept)
+
+    def test_handed_things_stay(self):
+        standing = [["r", "x"], [1], [], []]
+        kept = copy.deepcopy(standing)
+        self.assertEqual(steps.standing_wrong(CHART, standing), ("form",))
+        self.assertEqual(standing, kept)
+        what = ["on", "h"]
+        with self.assertRaises(NoHappening):
+            steps.fits(CHART, BEGIN, what)
+        self.assertEqual(what, ["on", "h"])
+
+    def test_asked_again_it_is_the_same(self):
+        for _ in range(2):
+            self.assertEqual(steps.step(CHART, BEGIN, "h"), (BEGIN, []))
+            self.assertEqual(steps.step(CHART, (("r", "y"), (1,), (), ()), "h")[0], BEGIN)
+            self.assertEqual(steps.standing_wrong(CHART, ((), (), (), ())), ("stood",))
+
+
 class TestArguments(unittest.TestCase):
+    def test_methods(self):
+        for made in (runs.Run, code.Coded):
+            for name, wanted in METHODS.items():
+                self.assertEqual(list(inspect.signature(vars(made)[name]).parameters), wanted)
+
+    def test_arguments_of_steps_by_names(self):
+        happening = {"chart": CHART, "standing": BEGIN, "happening": "h"}
+        what = {"what": ("on", "h"), "standing": BEGIN, "chart": CHART}
+        self.assertIsNone(steps.standing_wrong(thing=BEGIN, chart=CHART))
+        self.assertEqual(steps.fits(**what), [("r", 0), ("x", 0)])
+        self.assertEqual(steps.chosen(**what), [("x", 0)])
+        self.assertEqual(steps.step(**happening), (BEGIN, []))
+        self.assertEqual(steps.trace(**happening)[0][1], [("x", 0)])
+        self.assertEqual(steps.start(chart=CHART), (BEGIN, []))
+        self.assertEqual(len(steps.trace_start(chart=CHART)), 1)
+
     def test_names_of_arguments_and_files(self):
         for file, functions in INTERFACE.items():
             for name, wanted in functions.items():

@@ -1,10 +1,14 @@
-"""Looking charts over, points 10 and 11: nothing is let by for being like what is right, and it doesn't take long."""
+"""Looking charts over, points 10 and 11: nothing is let by for being like what is right, and it doesn't take long; no
+more do steps and runs."""
 
 import time
 import unittest
 
 from deepstands.charts import chart_wrong, names_of, parent_of, room_of, sort_of, within
+from deepstands.code import Coded, code
 from deepstands.errors import NoChart
+from deepstands.runs import Run
+from deepstands.steps import chosen, start, step, trace
 from deepstands.texts import read_chart
 
 from helpers import YES, chart, move, one, stand
@@ -136,6 +140,19 @@ class TestTime(unittest.TestCase):
         thing = replaced(GREAT, (2, 2, 3, 2, 3, 5, 0, 3), ("zz",))
         self.assertEqual(chart_wrong(thing), ("goal", "a16", 2))
         self.takes_at_most(1.5, 1000, chart_wrong, thing)
+
+    def test_steps(self):
+        standing = start(GREAT)[0]
+        self.takes_at_most(1, 1000, step, GREAT, standing, "go1")
+        self.takes_at_most(1, 1000, trace, GREAT, standing, "tick")
+        self.takes_at_most(1, 1000, chosen, GREAT, standing, ("on", "go1"))
+
+    def test_runs(self):
+        self.takes_at_most(1, 1000, Run, GREAT)
+        self.takes_at_most(1, 1000, Coded, code(GREAT))
+        for run in (Run(GREAT), Coded(code(GREAT))):
+            self.takes_at_most(1, 5000, run.tell, "tick")
+            self.assertEqual(len(run), 5000)
 
 
 if __name__ == "__main__":
