@@ -28,15 +28,16 @@ class Plan:
         self.above = [cell[2] for cell in cells]
         self.numbers = {name: number for number, name in enumerate(self.names)}
         self.last = self.last_within()
-        # Straight in each stand, markers apart; the markers straight in a one; the ones that have an end.
+        # What stands straight in each stand, markers apart; by the numbers of ones their markers, and their ends.
         self.inner = [[] for _ in cells]
         self.markers = {}
         self.ends = {}
         self.place_all()
-        # By whats the moves, tuples (number, k), in the up order; of a stand with an after the greatest n.
+        # By whats the moves, tuples (number, k), in the up order; by the numbers of stands the greatest n of an after.
         self.movers = {}
         self.greatest = {}
         self.sort_moves()
+        # The rooms and goals that were asked for: a run asks for the same ones often, a single step for few.
         self.ways = {}
 
     def last_within(self):
