@@ -19,10 +19,10 @@ def tree_of(chart):
 
 
 def known(tree, name):
-    """The name, which must be a stand's."""
+    """The number of the stand of this name, which must be one's."""
     if not tree.knows(name):
         raise NoName(own(name))
-    return name
+    return tree.numbers[name]
 
 
 def names_of(chart):
@@ -33,13 +33,14 @@ def names_of(chart):
 def parent_of(chart, name):
     """The stand that the named one stands straight in, None of the root."""
     tree = tree_of(chart)
-    return tree.parent(known(tree, name))
+    above = tree.above[known(tree, name)]
+    return None if above is None else tree.names[above]
 
 
 def sort_of(chart, name):
     """The sort of the named stand."""
     tree = tree_of(chart)
-    return tree.sort_of(known(tree, name))
+    return tree.stands[known(tree, name)][1]
 
 
 def within(chart, one, other):
@@ -51,8 +52,9 @@ def within(chart, one, other):
 def room_of(chart, name, move):
     """The room of a stand's move by its number, None of a move without goals."""
     tree = tree_of(chart)
-    moves = tree.stands[known(tree, name)][5]
+    number = known(tree, name)
+    moves = tree.stands[number][5]
     if not is_whole(move) or not 0 <= move < len(moves):
         raise NoMove(own(move))
-    goals = moves[move][3]
-    return tree.room(name, goals) if goals else None
+    goals = [tree.numbers[goal] for goal in moves[move][3]]
+    return tree.names[tree.room(number, goals)] if goals else None

@@ -1,15 +1,13 @@
 """Made code: rows that tell all of a chart, their text, and runs by them alone."""
 
-from deepstands.charts import tree_of
-from deepstands.errors import NoText
 from deepstands.plan import plan_of
-from deepstands.rows import HEAD, plan_by, row_of, row_text, rows_of
-from deepstands.track import Track
+from deepstands.rows import plan_by, read_rows, row_text, rows_of
+from deepstands.track import Copied, track_of
 
 
 def code(chart):
     """The code of a chart."""
-    return rows_of(plan_of(chart, tree_of(chart)))
+    return rows_of(plan_of(chart))
 
 
 def code_text(code):
@@ -19,18 +17,16 @@ def code_text(code):
 
 def read_code(text):
     """The code of which this is the text."""
-    rows = [row_of(line) for line in text.split("\n")]
-    if rows[0] != (HEAD, len(rows)):
-        raise NoText(0, 0)
-    return rows
+    return read_rows(text)
 
 
 class Coded:
     """A run by code, at the begin when it is made."""
 
     def __init__(self, code):
-        self.rows = tuple(code)
-        self.track = Track(plan_by(self.rows))
+        is_copy = isinstance(code, Copied)
+        self.whole = code.whole if is_copy else tuple(code)
+        self.track = code.track if is_copy else track_of(plan_by(self.whole))
 
     def tell(self, happening):
         """Does a step by a happening, or tick; told is what it said."""
@@ -50,14 +46,12 @@ class Coded:
 
     def copy(self):
         """Another one that stands as this one, with its steps."""
-        twin = Coded(self.rows)
-        twin.track.follow(self.track)
-        return twin
+        return Coded(Copied(self.whole, self.track))
 
     def __eq__(self, other):
         if not isinstance(other, Coded):
             return False
-        return self.rows == other.rows and self.track.present() == other.track.present()
+        return self.whole == other.whole and self.track.present() == other.track.present()
 
     def __len__(self):
         return len(self.track.steps)

@@ -14,69 +14,81 @@ DONE = ("done",)
 class Parts:
     """What is found in moves and deeds of a chart with facts and happenings of these names.
 
-    The names that are noted may be anything till has_names was asked; each method that looks at parts tells whether
+    The names that are noted may be anything till are_named was asked; each method that looks at parts tells whether
     they have their form but for these."""
 
     def __init__(self, facts, happenings):
         self.facts = facts
         self.happenings = happenings
+        # What was met, and is still to be looked at.
+        self.guards = []
+        self.deeds = []
+        self.terms = []
         # Names of facts and happenings that aren't there, of stands asked for by in, of what is said, tuples of goals.
         self.strange_facts = []
         self.strange_happenings = []
         self.asked = []
         self.words = {}
         self.goals = []
-        # How many moves are by a done.
-        self.dones = 0
+        # By the numbers of stands the greatest n of an after; those that have a done.
+        self.greatest = {}
+        self.done_movers = {}
 
     def take(self, moves, deeds):
         """Looks at moves and, besides theirs, at deeds."""
-        guards, terms = [], []
-        all_deeds = list(deeds)
-        return (
-            self.take_moves(moves, guards, all_deeds) and self.take_deeds(all_deeds, terms)
-            and self.take_levels(guards, terms)
-        )
+        self.deeds.extend(deeds)
+        return self.take_moves([(0, moves)]) and self.take_rest()
 
-    def take_moves(self, moves, guards, deeds):
-        """Looks at moves; their guards and deeds are put to the lists."""
-        for move in moves:
-            if not isinstance(move, tuple) or len(move) != 4:
-                return False
-            when, guard, more, goals = move
-            if not isinstance(more, tuple) or not isinstance(goals, tuple) or not isinstance(when, tuple):
-                return False
-            if len(when) == 2:
-                word, thing = when
-                if word == "on":
-                    if thing not in self.happenings:
-                        self.strange_happenings.append(thing)
-                elif word != "after" or not isinstance(thing, int) or isinstance(thing, bool):
+    def take_rest(self):
+        """Looks at all that was met."""
+        return self.take_deeds() and self.take_levels()
+
+    def take_moves(self, movers):
+        """Looks at moves, tuples (number, moves) by the numbers of their stands, but for their guards and deeds."""
+        happenings, greatest = self.happenings, self.greatest
+        all_guards, all_deeds, all_goals = self.guards, self.deeds, self.goals
+        for number, moves in movers:
+            for move in moves:
+                if not isinstance(move, tuple) or len(move) != 4:
                     return False
-                elif not 1 <= thing <= GREATEST_WAIT:
+                when, guard, deeds, goals = move
+                if not isinstance(deeds, tuple) or not isinstance(goals, tuple) or not isinstance(when, tuple):
                     return False
-            elif when == DONE:
-                self.dones += 1
-            else:
-                return False
-            # Most moves have no guard.
-            if guard != YES:
-                guards.append(guard)
-            deeds.extend(more)
-            if goals:
-                self.goals.append(goals)
+                if len(when) == 2:
+                    word, thing = when
+                    if word == "on":
+                        if thing not in happenings:
+                            self.strange_happenings.append(thing)
+                    elif word != "after" or not isinstance(thing, int) or thing is True or thing is False:
+                        return False
+                    elif not 1 <= thing <= GREATEST_WAIT:
+                        return False
+                    elif thing > greatest.get(number, 0):
+                        greatest[number] = thing
+                elif when == DONE:
+                    self.done_movers[number] = True
+                else:
+                    return False
+                # Most moves have no guard.
+                if guard != YES:
+                    all_guards.append(guard)
+                if deeds:
+                    all_deeds.extend(deeds)
+                if goals:
+                    all_goals.append(goals)
         return True
 
-    def take_deeds(self, deeds, terms):
-        """Looks at deeds; their terms are put to the list."""
-        for deed in deeds:
+    def take_deeds(self):
+        """Looks at the deeds that were met but for their terms."""
+        facts, terms = self.facts, self.terms
+        for deed in self.deeds:
             if not isinstance(deed, tuple):
                 return False
             many = len(deed)
             if many == 3:
                 word, name, term = deed
                 if word == "set":
-                    if name not in self.facts:
+                    if name not in facts:
                         self.strange_facts.append(name)
                 elif word != "say" or not isinstance(name, str):
                     return False
@@ -93,8 +105,9 @@ class Parts:
                 return False
         return True
 
-    def take_levels(self, guards, terms):
-        """Looks at guards and terms, and at all in them."""
+    def take_levels(self):
+        """Looks at the guards and terms that were met, and at all in them."""
+        guards, terms = self.guards, self.terms
         for _ in range(MOST_WITHIN):
             guards_within, terms_within = [], []
             if guards and not self.take_guards(guards, guards_within, terms_within):
@@ -160,10 +173,10 @@ class Parts:
                 return False
         return True
 
-    def has_names(self, known):
-        """Whether all that was noted are NAMES; those known are."""
+    def are_named(self):
+        """Whether all that was noted are NAMES."""
         for things in (self.strange_facts, self.strange_happenings, list(self.words), self.asked, *self.goals):
             for thing in things:
-                if not isinstance(thing, str) or thing not in known and not is_name(thing):
+                if not is_name(thing):
                     return False
         return True

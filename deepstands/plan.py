@@ -1,96 +1,72 @@
-"""What a run goes by: the stands of a chart as numbers."""
+"""What a run goes by: a chart's stands by their numbers, and what is found out about them as a run goes."""
 
+from deepstands.charts import tree_of
 from deepstands.kinds import MARKER_SORTS
+from deepstands.parts import DONE, YES
+from deepstands.turns import Turn
 
 TICK = ("tick",)
 
 
-def what_of(name, when):
-    """The what that a move of the named stand is by."""
-    if when[0] == "on":
-        return when
-    return TICK if when[0] == "after" else ("done", name)
-
-
 class Plan:
-    """The stands of a chart by their numbers, 0 the root's, in the chart's order.
+    """A chart to go by. What isn't asked for isn't found out: a single step asks for little of it, a run, and all who
+    go through many standings, for the same again and again."""
 
-    All that stand within a stand have the numbers behind its own, up to a last one. A cell tells of one stand its
-    name, its sort, the number of the stand that it stands straight in (None of the root), its into, out and moves."""
-
-    def __init__(self, facts, happenings, cells):
+    def __init__(self, facts, happenings, tree):
         self.facts = facts
         self.happenings = happenings
-        self.cells = cells
+        self.tree = tree
+        self.names = tree.names
+        self.stands = tree.stands
+        self.numbers = tree.numbers
         self.spans = {name: (low, high) for name, low, high, _ in facts}
-        self.names = [cell[0] for cell in cells]
-        self.sorts = [cell[1] for cell in cells]
-        self.above = [cell[2] for cell in cells]
-        self.numbers = {name: number for number, name in enumerate(self.names)}
-        self.last = self.last_within()
-        # What stands straight in each stand, markers apart; by the numbers of ones their markers, and their ends.
-        self.inner = [[] for _ in cells]
-        self.markers = {}
-        self.ends = {}
-        self.place_all()
-        # By whats the moves, tuples (number, k), in the up order; by the numbers of stands the greatest n of an after.
-        self.movers = {}
-        self.greatest = {}
-        self.sort_moves()
-        # The rooms and goals that were asked for: a run asks for the same ones often, a single step for few.
+        # By the numbers of stands the stands straight in them, markers apart; by moves their rooms and goals; by what
+        # is stood in the scenes.
+        self.plain_inner = {}
         self.ways = {}
+        self.scenes = {}
 
-    def last_within(self):
-        """The last number within each stand, its own where it has none in it."""
-        last = list(range(len(self.cells)))
-        for number in range(len(last) - 1, 0, -1):
-            above = self.above[number]
-            last[above] = max(last[above], last[number])
-        return last
+    def read_guard(self, part):
+        """The guard of a move, None where it always holds."""
+        return None if part == YES else part
 
-    def place_all(self):
-        """Notes what stands straight in each stand."""
-        for number, above in enumerate(self.above):
-            if above is None:
-                continue
-            if self.sorts[number] in MARKER_SORTS:
-                self.markers.setdefault(above, []).append(number)
-                continue
-            self.inner[above].append(number)
-            if self.sorts[number] == "end" and self.sorts[above] == "one":
-                self.ends.setdefault(above, []).append(number)
+    def read_deeds(self, part):
+        """The deeds of a stand or of a move."""
+        return part
 
-    def sort_moves(self):
-        """Notes the moves by what they are by."""
-        movers = [number for number, cell in enumerate(self.cells) if cell[5]]
-        # The up order: what ends first comes first, of those that end together the innermost.
-        for number in sorted(movers, key=lambda mover: (self.last[mover], -mover)):
-            name = self.names[number]
-            for k, move in enumerate(self.cells[number][5]):
-                when = move[0]
-                self.movers.setdefault(what_of(name, when), []).append((number, k))
-                if when[0] == "after":
-                    self.greatest[number] = max(when[1], self.greatest.get(number, 0))
-
-    def has(self, one, other):
-        """Whether one has other properly in it."""
-        return one < other <= self.last[one]
+    def inner(self, number):
+        """The numbers of the stands straight in a stand, markers apart."""
+        found = self.plain_inner.get(number)
+        if found is None:
+            found = []
+            last = self.tree.last
+            inner = number + 1
+            while inner <= last[number]:
+                if self.stands[inner][1] not in MARKER_SORTS:
+                    found.append(inner)
+                inner = last[inner] + 1
+            self.plain_inner[number] = found
+        return found
 
     def way(self, number, k):
         """The room of a move, None where it has no goals, and the numbers of these."""
-        if (number, k) not in self.ways:
-            goals = [self.numbers[name] for name in self.cells[number][5][k][3]]
-            self.ways[(number, k)] = (self.room(number, goals) if goals else None, goals)
-        return self.ways[(number, k)]
+        found = self.ways.get((number, k))
+        if found is None:
+            goals = [self.numbers[name] for name in self.stands[number][5][k][3]]
+            found = (self.tree.room(number, goals) if goals else None, goals)
+            self.ways[(number, k)] = found
+        return found
 
-    def room(self, number, goals):
-        """The least one that has the stand and all goals properly in it, else the root."""
-        above = self.above[number]
-        while above is not None:
-            if self.sorts[above] == "one" and all([self.has(above, goal) for goal in goals]):
-                return above
-            above = self.above[above]
-        return 0
+    def scene_of(self, stood):
+        """The scene of what is stood in, a tuple of numbers in order."""
+        found = self.scenes.get(stood)
+        if found is None:
+            found = self.scenes[stood] = Scene(self, stood)
+        return found
+
+    def first_worths(self):
+        """The worths of the facts at the begin."""
+        return {name: first for name, _, _, first in self.facts}
 
     def knows_happening(self, thing):
         """Whether it is a happening of the chart, or tick."""
@@ -102,15 +78,78 @@ class Plan:
             return thing == TICK
         if thing[0] == "on":
             return thing[1] in self.happenings
-        return thing[0] == "done" and thing[1] in [cell[0] for cell in self.cells if cell[1] == "one"]
+        return thing[0] == "done" and self.tree.knows(thing[1]) and self.stands[self.numbers[thing[1]]][1] == "one"
 
 
-def plan_of(chart, tree):
-    """The plan of a chart with this tree."""
-    numbers = {name: number for number, name in enumerate(tree.names)}
-    cells = []
-    for name, stand in tree.stands.items():
-        path = tree.paths[name]
-        above = numbers[path[-1]] if path else None
-        cells.append((name, stand[1], above, stand[3], stand[4], stand[5]))
-    return Plan(chart[0], chart[1], cells)
+class Scene:
+    """What is stood in at one time. A plan has one for each such, so two are the same just where they are one."""
+
+    def __init__(self, plan, stood):
+        self.plan = plan
+        self.stood = stood
+        self.names = tuple([plan.names[number] for number in stood])
+        # Those that have an age.
+        greatest = plan.tree.greatest
+        self.aging = [number for number in stood if number in greatest] if greatest else []
+        # By whats the moves that are by these, of what is stood in; by moves that are chosen what they do.
+        self.moves_known = {}
+        self.turns = {}
+
+    def movers(self, what):
+        """The moves of what is stood in by a what, in the up order: tuples (number, k, n, guard), n that of an after,
+        else 0, guard None where it always holds."""
+        found = self.moves_known.get(what)
+        if found is None:
+            found = self.moves_known[what] = self.moves_by(what)
+        return found
+
+    def moves_by(self, what):
+        """The same, looked for."""
+        plan = self.plan
+        stands = plan.stands
+        found = []
+        if what[0] == "on":
+            for number in self.stood:
+                for k, move in enumerate(stands[number][5]):
+                    if move[0] == what:
+                        found.append((number, k, 0, plan.read_guard(move[1])))
+        elif what == TICK:
+            for number in self.aging:
+                for k, move in enumerate(stands[number][5]):
+                    if move[0][0] == "after":
+                        found.append((number, k, move[0][1], plan.read_guard(move[1])))
+        elif self.is_at_end(plan.numbers[what[1]]):
+            number = plan.numbers[what[1]]
+            for k, move in enumerate(stands[number][5]):
+                if move[0] == DONE:
+                    found.append((number, k, 0, plan.read_guard(move[1])))
+        last = plan.tree.last
+        # What ends first comes first, of those that end together the innermost.
+        return sorted(found, key=lambda mover: (last[mover[0]], -mover[0], mover[1])) if len(found) > 1 else found
+
+    def turn(self, picked, kept):
+        """What those with goals do of the moves (number, k) that are chosen, None where none has any; kept as in a
+        state."""
+        plan = self.plan
+        key = tuple(picked)
+        if plan.tree.markers:
+            key = (key, tuple([kept.get(goal) for number, k in picked for goal in plan.way(number, k)[1]]))
+        if key not in self.turns:
+            ways = [plan.way(number, k) for number, k in picked]
+            ways = [way for way in ways if way[1]]
+            self.turns[key] = Turn(plan, self, ways, kept) if ways else None
+        return self.turns[key]
+
+    def is_at_end(self, number):
+        """Whether a stand is stood in, and an end straight in it."""
+        if number in self.stood:
+            for inner in self.plan.inner(number):
+                if self.plan.stands[inner][1] == "end" and inner in self.stood:
+                    return True
+        return False
+
+
+def plan_of(chart):
+    """The plan of a chart; what is none is refused."""
+    tree = tree_of(chart)
+    return Plan(chart[0], chart[1], tree)

@@ -1,16 +1,16 @@
 """Runs: charts that are gone by."""
 
-from deepstands.charts import tree_of
 from deepstands.plan import plan_of
-from deepstands.track import Track
+from deepstands.track import Copied, track_of
 
 
 class Run:
     """A run of a chart, at its begin when it is made."""
 
     def __init__(self, chart):
-        self.whole = chart
-        self.track = Track(plan_of(chart, tree_of(chart)))
+        is_copy = isinstance(chart, Copied)
+        self.whole = chart.whole if is_copy else chart
+        self.track = chart.track if is_copy else track_of(plan_of(chart))
 
     def tell(self, happening):
         """Does a step by a happening, or tick; told is what it said."""
@@ -30,9 +30,7 @@ class Run:
 
     def copy(self):
         """Another one that stands as this one, with its steps."""
-        twin = Run(self.whole)
-        twin.track.follow(self.track)
-        return twin
+        return Run(Copied(self.whole, self.track))
 
     def chart(self):
         """The chart."""

@@ -3,7 +3,7 @@
 from deepstands.errors import NoText
 from deepstands.grammar import read_deeds, read_fact, read_move
 from deepstands.kinds import FULL_SORTS, MARKER_SORTS, SORTS
-from deepstands.words import NAME, ROW_END, Words, blanks_of, is_passed
+from deepstands.words import NAME, ROW_END, Words, blanks_of, is_passed, known_words
 
 # What may stand straight in a stand ahead of the stands in it, in this order.
 INNER_WORDS = ("into", "out", "go")
@@ -71,10 +71,11 @@ class Sheet:
         self.root = None
         # The stands that the next row may stand straight in, the root first.
         self.opened = []
+        self.known = known_words()
 
     def read_row(self, number, row):
         """Reads a row that isn't passed over."""
-        words = Words(number, row)
+        words = Words(number, row, self.known)
         blanks = blanks_of(row)
         if self.root is None:
             if blanks != 0:

@@ -1,28 +1,45 @@
 """Standings: whether a thing is one, and the states that they tell of."""
 
+from deepstands.errors import NoStanding
 from deepstands.kinds import is_whole
 
 
-def is_inside(plan, top, names):
+def opened_at(plan, number, names, at):
+    """What is stood in straight in a stand, as the name at a place tells; None where nothing can be so."""
+    inner = plan.inner(number)
+    if plan.stands[number][1] != "one":
+        return inner
+    if at < len(names):
+        for k in inner:
+            if plan.names[k] == names[at]:
+                return [k]
+    return None
+
+
+def are_inside(plan, top, names):
     """Whether these are the names of all that may be stood in properly within a stand at one time, in order; each of
     the tuple may be anything."""
-    found = []
-    opened = [top]
+    at = 0
+    opened = opened_at(plan, top, names, at)
+    if opened is None:
+        return False
+    opened = opened[::-1]
     while opened:
         number = opened.pop()
-        inner = plan.inner[number]
-        if plan.sorts[number] == "one":
-            inner = [k for k in inner if plan.names[k] in names]
-            if len(inner) != 1:
+        if at == len(names) or plan.names[number] != names[at]:
+            return False
+        at += 1
+        if plan.tree.last[number] != number:
+            inner = opened_at(plan, number, names, at)
+            if inner is None:
                 return False
-        found.extend(inner)
-        opened.extend(inner)
-    return tuple([plan.names[k] for k in sorted(found)]) == names
+            opened.extend(inner[::-1])
+    return at == len(names)
 
 
 def are_stood(plan, names):
     """Whether these are the names of all that may be stood in at one time, in order."""
-    return names[:1] == (plan.names[0],) and is_inside(plan, 0, names[1:])
+    return names[:1] == (plan.names[0],) and are_inside(plan, 0, names[1:])
 
 
 def are_worths(plan, worths):
@@ -37,24 +54,24 @@ def are_worths(plan, worths):
 
 def are_ages(plan, stood, ages):
     """Whether each stand stood in that has a move by after has an age, and no other."""
-    numbers = [plan.numbers[name] for name in stood]
-    aging = [number for number in numbers if number in plan.greatest]
+    greatest = plan.tree.greatest
+    aging = [name for name in stood if plan.numbers[name] in greatest] if greatest else []
     if len(ages) != len(aging):
         return False
-    for number, pair in zip(aging, ages):
-        if not isinstance(pair, tuple) or len(pair) != 2 or pair[0] != plan.names[number]:
+    for name, pair in zip(aging, ages):
+        if not isinstance(pair, tuple) or len(pair) != 2 or pair[0] != name:
             return False
-        if not is_whole(pair[1]) or not 0 <= pair[1] <= plan.greatest[number] + 1:
+        if not is_whole(pair[1]) or not 0 <= pair[1] <= greatest[plan.numbers[name]] + 1:
             return False
     return True
 
 
 def may_keep(plan, number, names):
     """Whether the stand is a marker, and may keep a tuple of these names, which may be anything."""
-    one = plan.above[number]
-    if plan.sorts[number] == "back":
-        return len(names) == 1 and names[0] in [plan.names[k] for k in plan.inner[one]]
-    return plan.sorts[number] == "deep" and is_inside(plan, one, names)
+    one = plan.tree.above[number]
+    if plan.stands[number][1] == "back":
+        return len(names) == 1 and names[0] in [plan.names[k] for k in plan.inner(one)]
+    return plan.stands[number][1] == "deep" and are_inside(plan, one, names)
 
 
 def are_kept(plan, kept):
@@ -75,9 +92,13 @@ def are_kept(plan, kept):
 
 def fault_of(plan, thing):
     """What is wrong first with a thing, None where it is a standing."""
-    if not isinstance(thing, tuple) or len(thing) != 4 or not all([isinstance(part, tuple) for part in thing]):
+    if not isinstance(thing, tuple) or len(thing) != 4:
         return ("form",)
     stood, worths, ages, kept = thing
+    if not isinstance(stood, tuple) or not isinstance(worths, tuple):
+        return ("form",)
+    if not isinstance(ages, tuple) or not isinstance(kept, tuple):
+        return ("form",)
     if not are_stood(plan, stood):
         return ("stood",)
     if not are_worths(plan, worths):
@@ -87,25 +108,44 @@ def fault_of(plan, thing):
     return None if are_kept(plan, kept) else ("kept",)
 
 
+def last_stood(plan, stood):
+    """The names of those of what is stood in that have none stood in in them."""
+    return [name for name in stood if plan.tree.last[plan.numbers[name]] == plan.numbers[name]]
+
+
 def state_of(plan, standing):
     """The state that a standing tells of."""
     stood, worths, ages, kept = standing
     numbers = plan.numbers
     return (
-        [numbers[name] for name in stood],
+        plan.scene_of(tuple([numbers[name] for name in stood])),
         {fact[0]: worth for fact, worth in zip(plan.facts, worths)},
         {numbers[name]: age for name, age in ages},
         {numbers[name]: tuple([numbers[inner] for inner in names]) for name, names in kept},
     )
 
 
+def state_for(plan, standing):
+    """The state that a standing tells of; what is none is refused."""
+    wrong = fault_of(plan, standing)
+    if wrong is not None:
+        raise NoStanding(wrong)
+    return state_of(plan, standing)
+
+
 def standing_of(plan, state):
     """The standing that tells of a state."""
-    stood, worths, ages, kept = state
+    scene, worths, ages, kept = state
     names = plan.names
     return (
-        tuple([names[number] for number in stood]),
-        tuple([worths[fact[0]] for fact in plan.facts]),
-        tuple([(names[number], ages[number]) for number in sorted(ages)]),
+        scene.names,
+        tuple(worths.values()),
+        tuple([(names[number], age) for number, age in ages.items()]),
         tuple([(names[number], tuple([names[inner] for inner in kept[number]])) for number in sorted(kept)]),
     )
+
+
+def key_of(state):
+    """What a state is known by among those of one plan: two have the same just where they tell of one standing."""
+    scene, worths, ages, kept = state
+    return (scene, tuple(worths.values()), tuple(ages.values()), tuple(sorted(kept.items())))

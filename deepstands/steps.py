@@ -1,29 +1,15 @@
 """Steps: which moves fit and are chosen, and what comes of a happening."""
 
-from deepstands.charts import tree_of
-from deepstands.errors import NoHappening, NoStanding
+from deepstands.errors import NoHappening
 from deepstands.kinds import own
 from deepstands.moment import Moment, begun, stepped
 from deepstands.plan import plan_of
-from deepstands.standings import fault_of, standing_of, state_of
-
-
-def plan_for(chart):
-    """The plan of a chart; what is none is refused."""
-    return plan_of(chart, tree_of(chart))
-
-
-def state_for(plan, standing):
-    """The state that a standing tells of; what is none is refused."""
-    wrong = fault_of(plan, standing)
-    if wrong is not None:
-        raise NoStanding(wrong)
-    return state_of(plan, standing)
+from deepstands.standings import fault_of, standing_of, state_for
 
 
 def moment_for(chart, standing, what):
     """The moment at which a what is asked for; what is no such thing is refused."""
-    plan = plan_for(chart)
+    plan = plan_of(chart)
     state = state_for(plan, standing)
     if not plan.knows_what(what):
         raise NoHappening(own(what))
@@ -32,7 +18,7 @@ def moment_for(chart, standing, what):
 
 def step_for(chart, standing, happening):
     """A step from a standing, done; what is no such thing is refused."""
-    plan = plan_for(chart)
+    plan = plan_of(chart)
     state = state_for(plan, standing)
     if not plan.knows_happening(happening):
         raise NoHappening(own(happening))
@@ -60,7 +46,7 @@ def told(moment):
 
 def standing_wrong(chart, thing):
     """None where the thing is a standing of the chart, else the first that is wrong with it."""
-    return fault_of(plan_for(chart), thing)
+    return fault_of(plan_of(chart), thing)
 
 
 def fits(chart, standing, what):
@@ -82,7 +68,7 @@ def step(chart, standing, happening):
 
 def start(chart):
     """The standing of the begin, and what was said."""
-    return behind(begun(plan_for(chart)))
+    return behind(begun(plan_of(chart)))
 
 
 def trace(chart, standing, happening):
@@ -92,4 +78,4 @@ def trace(chart, standing, happening):
 
 def trace_start(chart):
     """What is done at the begin, what by what."""
-    return told(begun(plan_for(chart)))
+    return told(begun(plan_of(chart)))

@@ -23,9 +23,10 @@ def printed(chart):
     """The text of a chart."""
     tree = tree_of(chart)
     rows = head_rows(chart)
-    for name in tree.names:
-        stand = tree.stands[name]
-        indent = "  " * len(tree.paths[name])
-        rows.append(f"{indent}{stand[1]} {name}")
+    indents = []
+    for stand, above in zip(tree.stands, tree.above):
+        indent = "" if above is None else indents[above] + "  "
+        indents.append(indent)
+        rows.append(f"{indent}{stand[1]} {stand[0]}")
         rows.extend([f"{indent}  {row}" for row in inner_rows(stand)])
     return rows

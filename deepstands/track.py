@@ -7,18 +7,17 @@ from deepstands.standings import standing_of
 
 
 class Track:
-    """The begin of a plan's chart and the steps made from there on."""
+    """The begin of a plan's chart and the steps made from there on. Of the begin, and of each step, it has the state
+    behind it and what it said."""
 
-    def __init__(self, plan):
-        moment = begun(plan)
+    def __init__(self, plan, opening, steps):
         self.plan = plan
-        # Of the begin, and of each step, the state behind it and what it said.
-        self.begin = (moment.state(), moment.heard)
-        self.steps = []
+        self.opening = opening
+        self.steps = steps
 
     def state(self):
         """The state that it has come to."""
-        return self.steps[-1][0] if self.steps else self.begin[0]
+        return self.steps[-1][0] if self.steps else self.opening[0]
 
     def present(self):
         """The standing that it has come to."""
@@ -34,7 +33,7 @@ class Track:
 
     def all_heard(self):
         """What the begin said, and then each step."""
-        return [list(heard) for _, heard in [self.begin] + self.steps]
+        return [list(heard) for _, heard in [self.opening] + self.steps]
 
     def undo(self):
         """Takes the last step back."""
@@ -42,6 +41,20 @@ class Track:
             raise NoBack()
         self.steps.pop()
 
-    def follow(self, other):
-        """Goes the way that another one of the same plan went."""
-        self.steps = list(other.steps)
+    def twin(self):
+        """Another one that went the same way."""
+        return Track(self.plan, self.opening, list(self.steps))
+
+
+class Copied:
+    """What a run that is copied hands to the new one in the stead of a chart or a code: that, and its own track."""
+
+    def __init__(self, whole, track):
+        self.whole = whole
+        self.track = track.twin()
+
+
+def track_of(plan):
+    """The track of a plan's chart, at its begin; refused as that is."""
+    moment = begun(plan)
+    return Track(plan, (moment.state(), moment.heard), [])

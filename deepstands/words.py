@@ -1,9 +1,10 @@
 """The words of a row of a text, and taking them one by one."""
 
 from deepstands.errors import NoText
-from deepstands.kinds import FIGURES, KEYWORDS, LETTERS, MOST_FIGURES, MOST_SIGNS
+from deepstands.kinds import FIGURES, KEYWORDS, LETTERS, MOST_FIGURES, MOST_SIGNS, is_name
 
 MARKS = "()+-<=,"
+PARTED = {40: " ( ", 41: " ) ", 43: " + ", 44: " , ", 45: " - ", 60: " < ", 61: " = "}
 # The kinds of words; a keyword and a mark is a kind of its own.
 NAME = "a name"
 NUMBER = "a number"
@@ -70,29 +71,67 @@ def words_of(row):
     return words
 
 
-class Words:
-    """The words of one row, taken from the left."""
+def known_words():
+    """The kinds of the words that are their own kinds, by these."""
+    return {word: word for word in [*KEYWORDS, *MARKS]}
 
-    def __init__(self, number, row):
+
+def kind_of_whole(text):
+    """The kind of what is a name or a number by all of its signs, else None."""
+    if is_name(text):
+        return NAME
+    if text.isdigit() and len(text) <= MOST_FIGURES and (text[0] != "0" or text == "0"):
+        return NUMBER
+    return None
+
+
+def quick_words(row, known):
+    """The kinds and the texts of the words of a row, and its end, without their columns; None where they can't be told
+    by parting it at its blanks and marks alone. Kinds that were found are noted in those known."""
+    if not row.isascii() or not row.isprintable():
+        return None
+    texts = row.translate(PARTED).split()
+    kinds = []
+    for text in texts:
+        kind = known.get(text)
+        if kind is None:
+            kind = kind_of_whole(text)
+            if kind is None:
+                return None
+            known[text] = kind
+        kinds.append(kind)
+    return [*kinds, ROW_END], [*texts, ""]
+
+
+class Words:
+    """The words of one row, taken from the left; known are the kinds of words met in rows ahead."""
+
+    def __init__(self, number, row, known):
         self.number = number
-        self.words = words_of(row)
+        self.row = row
+        found = quick_words(row, known)
+        if found is None:
+            words = words_of(row)
+            found = [word[0] for word in words], [word[1] for word in words]
+        self.kinds, self.texts = found
         self.at = 0
 
     def ahead(self):
         """The kind of the next word."""
-        return self.words[self.at][0]
+        return self.kinds[self.at]
 
     def take(self, *kinds):
         """The next word, which must be of one of the kinds."""
-        kind, word, column = self.words[self.at]
-        if kind not in kinds:
-            raise NoText(self.number, column)
-        self.at += 1
-        return word
+        at = self.at
+        if self.kinds[at] not in kinds:
+            # Only what is refused is asked for its column.
+            raise NoText(self.number, words_of(self.row)[at][2])
+        self.at = at + 1
+        return self.texts[at]
 
     def take_if(self, kind):
         """Whether the next word is of the kind; it is taken then."""
-        if self.ahead() != kind:
+        if self.kinds[self.at] != kind:
             return False
         self.at += 1
         return True

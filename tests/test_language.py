@@ -18,7 +18,7 @@ METHODS = set(
     "append clear copy count endswith extend find get index insert isalnum isalpha isdigit islower isspace isupper"
     " items join keys ljust lower lstrip partition pop remove replace reverse rfind rjust rpartition rsplit rstrip"
     " setdefault split splitlines startswith strip update upper values zfill bit_length add discard isascii isidentifier"
-    " removeprefix removesuffix isdecimal".split()
+    " removeprefix removesuffix isdecimal isprintable translate".split()
 )
 NEVER = set("register mro elements open input law version_info with_traceback add_note".split())
 NOT_IN_FILES = (
@@ -149,13 +149,42 @@ class TestLanguage(unittest.TestCase):
         self.assertEqual(read - methods - attributes - METHODS, set())
 
     def test_classes_that_compare(self):
-        """With __eq__ or __len__ in the package any, all and the like take lists, no generators, and no try is about
-        ValueError and its kin."""
+        """With __eq__ or __len__ in the package any, all and the like take lists, no generators."""
         for _, _, tree in self.each():
             for node in ast.walk(tree):
-                self.assertNotIsInstance(node, (ast.GeneratorExp, ast.Try, ast.Yield))
+                self.assertNotIsInstance(node, (ast.GeneratorExp, ast.Yield))
                 if isinstance(node, ast.FunctionDef) and node.name == "__len__":
                     self.assertEqual(node.body[-1].value.func.id, "len")
+
+    def test_own_errors_alone_are_caught(self):
+        own = {node.name for node in ast.parse((PACKAGE / "errors.py").read_text()).body
+               if isinstance(node, ast.ClassDef)}
+        for _, _, tree in self.each():
+            for node in ast.walk(tree):
+                if isinstance(node, ast.Try):
+                    self.assertEqual(node.finalbody, [])
+                    for handler in node.handlers:
+                        self.assertIn(handler.type.id, own)
+
+    def test_sets_and_stars(self):
+        """Sets are not iterated over, and stand where they may; no star stands in one."""
+        for _, _, tree in self.each():
+            for node in ast.walk(tree):
+                if isinstance(node, (ast.For, ast.comprehension)):
+                    self.assertNotIsInstance(node.iter, (ast.Set, ast.SetComp))
+                    self.assertNotEqual(getattr(getattr(node.iter, "func", None), "id", None), "set")
+                if isinstance(node, ast.Set):
+                    self.assertFalse(any(isinstance(part, ast.Starred) for part in node.elts))
+
+    def test_no_file_imports_from_itself_over_others(self):
+        needs = {}
+        for path, _, tree in self.each():
+            needs[path.stem] = {node.module.split(".")[1] for node in ast.walk(tree) if isinstance(node, ast.ImportFrom)}
+        while needs:
+            free = [name for name in needs if not needs[name] & set(needs)]
+            self.assertTrue(free, needs)
+            for name in free:
+                del needs[name]
 
     def test_words(self):
         for _, text, tree in self.each():
