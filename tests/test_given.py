@@ -4,7 +4,7 @@ import copy
 import inspect
 import unittest
 
-from deepstands import charts, code, runs, steps, texts
+from deepstands import alike, charts, code, desk, leads, reach, runs, sayings, steps, texts, trials, workshop
 from deepstands.errors import NoHappening, NoMove, NoName
 
 from helpers import chart, move, one, stand
@@ -20,6 +20,18 @@ INTERFACE = {
             "trace": ["chart", "standing", "happening"], "trace_start": ["chart"]},
     runs: {"Run": ["chart"]},
     code: {"code": ["chart"], "code_text": ["code"], "read_code": ["text"], "Coded": ["code"]},
+    reach: {"reach": ["chart", "*most"]},
+    sayings: {"saying_wrong": ["chart", "thing"], "settled": ["chart", "saying", "*most"],
+              "judged": ["chart", "saying", "paper"]},
+    trials: {"least_row": ["chart", "goal", "*most"], "trial_of": ["chart", "row"], "tried": ["chart", "trial"],
+             "trials": ["chart", "*most"], "cover_wrong": ["chart", "some", "cover"], "idle": ["chart", "*most"],
+             "less": ["chart", "*most"]},
+    alike: {"alike": ["one", "other", "*most"], "alike_wrong": ["one", "other", "thing"], "lots": ["chart", "*most"],
+            "apart": ["chart", "one", "other", "*most"], "least_table": ["chart", "*most"],
+            "table_wrong": ["chart", "thing", "*most"]},
+    leads: {"led": ["chart", "other", "standing", "names"], "change_wrong": ["chart", "other", "standing", "names"]},
+    workshop: {"Workshop": ["text"]},
+    desk: {"Desk": ["text"]},
 }
 METHODS = {"tell": ["self", "happening"], "standing": ["self"], "said": ["self"], "back": ["self"], "copy": ["self"]}
 BEGIN = (("r", "x"), (1,), (), ())
@@ -162,10 +174,20 @@ class TestArguments(unittest.TestCase):
                 function = getattr(file, name)
                 self.assertEqual(function.__module__, file.__name__)
                 told = inspect.signature(function).parameters
-                self.assertEqual(list(told), wanted)
-                for parameter in told.values():
+                self.assertEqual(list(told), [argument.lstrip("*") for argument in wanted])
+                for argument, parameter in zip(wanted, told.values()):
+                    if argument.startswith("*"):
+                        self.assertEqual((parameter.kind, parameter.default), (parameter.KEYWORD_ONLY, 2000))
+                        continue
                     self.assertEqual(parameter.kind, parameter.POSITIONAL_OR_KEYWORD)
                     self.assertIs(parameter.default, parameter.empty)
+
+    def test_classes_have_their_own_methods(self):
+        shop = ("start tell tick standing said edit stop back text chart titles log").split()
+        for made, methods in ((runs.Run, [*METHODS, "chart", "__eq__", "__len__"]), (code.Coded, [*METHODS, "__eq__", "__len__"]),
+                              (workshop.Workshop, shop), (desk.Desk, ["say"])):
+            for name in methods:
+                self.assertIn(name, vars(made))
 
     def test_arguments_by_names(self):
         self.assertEqual(texts.read_chart(text=TEXT), CHART)
