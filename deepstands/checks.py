@@ -34,7 +34,7 @@ def are_facts(facts):
 def are_all_names(chart, tree, parts):
     """Whether all NAMES that are told, but for those that must be there, are some, and none is there twice."""
     facts, happenings = parts.facts, chart[1]
-    if not tree.number_all() or len(set(facts)) != len(facts) or len(set(happenings)) != len(happenings):
+    if len(tree.numbers) != len(tree.names) or len(set(facts)) != len(facts) or len(set(happenings)) != len(happenings):
         return False
     for fact in facts:
         if fact in tree.numbers:

@@ -163,11 +163,12 @@ def marker_wrong(chart):
 
 def are_together(tree, goals):
     """Whether any two of the goals can be entered together."""
-    numbers = [tree.numbers[goal] for goal in goals]
-    for at, number in enumerate(numbers):
-        for ahead in numbers[:at]:
-            if not tree.together(ahead, number):
-                return False
+    # The least stand that has two of them is that of two others that stand between these, or has it in it: so only
+    # those that are next to one another in the chart's order are looked at.
+    numbers = sorted([tree.numbers[goal] for goal in goals])
+    for one, other in zip(numbers, numbers[1:]):
+        if not tree.together(one, other):
+            return False
     return True
 
 
@@ -179,7 +180,9 @@ def names_word(tree, parts):
     if parts.strange_happenings:
         return "happening"
     for name in parts.asked:
-        if not isinstance(name, str) or name not in numbers or tree.stands[numbers[name]][1] in MARKER_SORTS:
+        if not isinstance(name, str) or name not in numbers:
+            return "in"
+        if tree.markers and tree.stands[numbers[name]][1] in MARKER_SORTS:
             return "in"
     for goals in parts.goals:
         for goal in goals:
@@ -203,7 +206,6 @@ def name_wrong(chart):
     """The first row of a stand that names what isn't there, or may not be named there."""
     tree = Tree()
     tree.take_stands((chart[2],), None, 1, [])
-    tree.number_all()
     for number, stand in enumerate(tree.stands):
         rows = [((), stand[3]), ((), stand[4])] + [((move,), ()) for move in stand[5]]
         for k, row in enumerate(rows):

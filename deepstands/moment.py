@@ -6,10 +6,13 @@ changed, nor are the dicts in it: what gets another worth is another dict."""
 
 from deepstands.errors import Beyond, Endless
 from deepstands.plan import TICK
+from deepstands.standings import key_of
 from deepstands.terms import holds, worth_of
 from deepstands.turns import Beginning
 
 MOST_INNER = 50
+# Up to so many it isn't asked whether they come again.
+FEW_INNER = 4
 
 
 class Moment:
@@ -136,10 +139,17 @@ class Moment:
     def finish(self):
         """Takes the inner whats, till there are none."""
         many = 0
+        seen = {}
         while self.waiting:
             many += 1
             if many > MOST_INNER:
                 raise Endless()
+            # What comes again will come again and again: all that would be chosen up to the last one was chosen.
+            if many > FEW_INNER:
+                key = (key_of(self.state()), tuple(self.waiting))
+                if key in seen:
+                    raise Endless()
+                seen[key] = True
             self.take(self.waiting.pop(0))
 
     def begin(self):

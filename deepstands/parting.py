@@ -4,8 +4,6 @@ A state tells something of each letter, and goes on to a state by it. States are
 round those that tell unlike of a letter, in each round those of which a letter leads to such as were parted in the
 round before. So two are parted in round r just where a shortest row that parts them has r + 1 letters."""
 
-NO_BLOCK = -1
-
 
 class Parting:
     """States by numbers, tells and targets of each a tuple or list by letters, parted as far as they may be.
@@ -17,7 +15,7 @@ class Parting:
         self.tells = tells
         self.targets = targets
         self.blocks = []
-        # By the numbers of blocks: their states; in which round, and off which block, they were parted.
+        # By the numbers of blocks their states; in which round, and off which block, they were parted, -1 of the first.
         self.members = []
         self.rounds = []
         self.parents = []
@@ -33,7 +31,7 @@ class Parting:
         first = {}
         for state, told in enumerate(self.tells):
             if told not in first:
-                first[told] = self.new_block(0, NO_BLOCK)
+                first[told] = self.new_block(0, -1)
             self.blocks.append(first[told])
             self.members[first[told]][state] = True
         fresh = list(first.values())

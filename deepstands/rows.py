@@ -178,7 +178,6 @@ def plan_by(rows):
             facts.append((row[1], int(row[2]), int(row[3]), int(row[4])))
         elif word == "on":
             happenings.append(row[1])
-    tree.number_all()
     return Made(tuple(facts), tuple(happenings), tree)
 
 

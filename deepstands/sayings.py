@@ -101,7 +101,8 @@ def all_behind(web, number):
     found = {number: True}
     waiting = [number]
     while waiting:
-        for told, _, behind in web.rows[waiting.pop()]:
+        further = waiting.pop()
+        for told, _, behind in web.rows[further]:
             if not isinstance(told, str) and behind not in found:
                 found[behind] = True
                 waiting.append(behind)

@@ -1,40 +1,29 @@
 """Standings: whether a thing is one, and the states that they tell of."""
 
 from deepstands.errors import NoStanding
-from deepstands.kinds import is_whole
-
-
-def opened_at(plan, number, names, at):
-    """What is stood in straight in a stand, as the name at a place tells; None where nothing can be so."""
-    inner = plan.inner(number)
-    if plan.stands[number][1] != "one":
-        return inner
-    if at < len(names):
-        for k in inner:
-            if plan.names[k] == names[at]:
-                return [k]
-    return None
+from deepstands.kinds import MARKER_SORTS, is_whole
 
 
 def are_inside(plan, top, names):
     """Whether these are the names of all that may be stood in properly within a stand at one time, in order; each of
     the tuple may be anything."""
-    at = 0
-    opened = opened_at(plan, top, names, at)
-    if opened is None:
-        return False
-    opened = opened[::-1]
-    while opened:
-        number = opened.pop()
-        if at == len(names) or plan.names[number] != names[at]:
+    above = plan.tree.above
+    # How many stands straight in it are stood in, of each that is.
+    many_in = {top: 0}
+    behind = top
+    for name in names:
+        number = plan.numbers.get(name) if isinstance(name, str) else None
+        if number is None or number <= behind or above[number] not in many_in:
             return False
-        at += 1
-        if plan.tree.last[number] != number:
-            inner = opened_at(plan, number, names, at)
-            if inner is None:
-                return False
-            opened.extend(inner[::-1])
-    return at == len(names)
+        many_in[above[number]] += 1
+        many_in[number] = 0
+        behind = number
+    for number, many in many_in.items():
+        _, sort, inner, _, _, _ = plan.stands[number]
+        # There are no markers straight in an all.
+        if sort in MARKER_SORTS or sort == "one" and many != 1 or sort == "all" and many != len(inner):
+            return False
+    return True
 
 
 def are_stood(plan, names):

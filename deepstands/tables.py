@@ -62,5 +62,5 @@ def row_unlike(web, table):
     many = len(targets)
     tells.extend([tuple([told for _, told in row]) for row in rows])
     targets.extend([[many + lot for lot, _ in row] for row in rows])
-    row = Parting(tells, targets).row_apart(0, many)
-    return None if row is None else [web.happenings[at] for at in row]
+    letters = Parting(tells, targets).row_apart(0, many)
+    return None if letters is None else [web.happenings[at] for at in letters]

@@ -20,22 +20,18 @@ class Tree:
         self.markers = {}
         self.greatest = {}
         self.moving = []
-        # Their numbers by their names, once all are noted.
+        # Their numbers by their names.
         self.numbers = {}
 
     def add_stand(self, stand, above):
         """Notes a stand, without what is in it; told is its number."""
         number = len(self.names)
         self.names.append(stand[0])
+        self.numbers[stand[0]] = number
         self.stands.append(stand)
         self.above.append(above)
         self.last.append(number)
         return number
-
-    def number_all(self):
-        """Notes the numbers by the names; told is whether no two stands have one name."""
-        self.numbers = dict(zip(self.names, range(len(self.names))))
-        return len(self.numbers) == len(self.names)
 
     def knows(self, name):
         """Whether a stand has this name; it may be anything."""
@@ -51,10 +47,11 @@ class Tree:
 
     def together(self, one, other):
         """Whether they lie within, or are, unlike stands straight in an all that has both, by their numbers."""
-        if one == other or self.has(one, other) or self.has(other, one):
+        first, second = min(one, other), max(one, other)
+        if second <= self.last[first]:
             return False
-        least = self.above[one]
-        while not self.has(least, other):
+        least = self.above[first]
+        while second > self.last[least]:
             least = self.above[least]
         return self.stands[least][1] == "all"
 
@@ -70,7 +67,7 @@ class Tree:
     def take_stands(self, stands, above, deep, deeds):
         """Notes stands that stand straight in one, so deep, and all in them, and puts the deeds of their intos and
         outs to those. Told is whether all are made as one of their sort is, and none is too deep."""
-        names, all_stands = self.names, self.stands
+        names, numbers, all_stands = self.names, self.numbers, self.stands
         for stand in stands:
             if not isinstance(stand, tuple) or len(stand) != 6:
                 return False
@@ -81,6 +78,7 @@ class Tree:
                 return False
             number = len(names)
             names.append(name)
+            numbers[name] = number
             all_stands.append(stand)
             self.above.append(above)
             self.last.append(number)

@@ -73,7 +73,7 @@ def words_of(row):
 
 def known_words():
     """The kinds of the words that are their own kinds, by these."""
-    return {word: word for word in [*KEYWORDS, *MARKS]}
+    return {word: word for word in [*list(KEYWORDS), *MARKS]}
 
 
 def kind_of_whole(text):

@@ -103,7 +103,8 @@ class Workshop:
         """Has all runs go on by another text, from these states by their titles."""
         self.page = page
         for title in states:
-            self.lines_by[title].now = states[title]
+            line = self.lines_by[title]
+            line.now = states[title]
 
     def stop(self, title):
         """Ends a run."""
@@ -123,8 +124,9 @@ class Workshop:
         elif deed[0] == "stop":
             self.lines_by[deed[1]] = ahead
         else:
-            self.lines_by[deed[1]].now = ahead
-            self.lines_by[deed[1]].heard.pop()
+            line = self.lines_by[deed[1]]
+            line.now = ahead
+            line.heard.pop()
 
     def text(self):
         """The present text."""

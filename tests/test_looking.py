@@ -1,17 +1,25 @@
 """Looking charts over, points 10 and 11: nothing is let by for being like what is right, and it doesn't take long; no
-more do steps and runs."""
+more do steps, runs, code and all standings."""
 
+import random
 import time
 import unittest
 
+from deepstands.alike import alike, alike_wrong, apart, lots
 from deepstands.charts import chart_wrong, names_of, parent_of, room_of, sort_of, within
-from deepstands.code import Coded, code
-from deepstands.errors import NoChart
+from deepstands.checks import tree_of_right
+from deepstands.code import Coded, code, code_text, read_code
+from deepstands.errors import Endless, NoChart
+from deepstands.faults import first_fault
+from deepstands.reach import reach
 from deepstands.runs import Run
-from deepstands.steps import chosen, start, step, trace
+from deepstands.sayings import judged, settled
+from deepstands.steps import chosen, fits, standing_wrong, start, step, trace
 from deepstands.texts import read_chart
+from deepstands.trials import cover_wrong, idle, trials
 
-from helpers import YES, chart, move, one, stand
+from helpers import YES, Maker, chart, move, one, stand
+from plain import Wild
 
 LEAF_ROW = "go on go1 if in a1 and not n + 1 < m - 2 or yes do set n n + 1, say hello m - ( n - 1 ) to a2"
 
@@ -117,24 +125,49 @@ class TestLikeWhatIsRight(unittest.TestCase):
             self.assertEqual(chart_wrong(chart(one("r", stand("x", moves=[told] * 2)))), ("stand", (0,)))
 
 
+class TestQuickAndSlow(unittest.TestCase):
+    def spoiled(self, by, chart):
+        """A chart with a part in another one's place, or something strange there."""
+        where = places(chart)
+        strange = [None, True, False, -1, 0, "", "x", "yes", "tick", (), [], ("yes",), ("num", 1), ("done",), "back", "one"]
+        thing = replaced(chart, by.choice(where), by.choice([at(chart, by.choice(where)), by.choice(strange)]))
+        return thing if by.randint(0, 3) else replaced(thing, by.choice(places(thing)), by.choice(strange))
+
+    def test_the_quick_look_lets_by_just_what_has_no_fault(self):
+        seen = {}
+        for seed in range(120):
+            by = random.Random(seed)
+            chart = by.choice([Wild, Maker])(seed).chart()
+            self.assertIsNotNone(tree_of_right(chart))
+            for _ in range(25):
+                thing = self.spoiled(by, chart)
+                wrong = first_fault(thing)
+                self.assertEqual(tree_of_right(thing) is None, wrong is not None, thing)
+                self.assertEqual(chart_wrong(thing), wrong)
+                seen[wrong and wrong[0]] = seen.get(wrong and wrong[0], 0) + 1
+        for word in (None, "chart", "fact", "happening", "stand", "twice", "goal", "in", "done"):
+            self.assertGreater(seen.get(word, 0), 0, seen)
+
+
 class TestTime(unittest.TestCase):
     """Limits that a busy machine keeps, and that a look at each part for each sign and name doesn't."""
 
     def takes_at_most(self, seconds, many, ask, *args):
-        before = time.perf_counter()
-        for _ in range(many):
-            ask(*args)
-        self.assertLess(time.perf_counter() - before, seconds)
+        """The quickest of three loops counts: a machine that is busy for a while spoils one."""
+        taken = []
+        for _ in range(3):
+            before = time.perf_counter()
+            for _ in range(many):
+                ask(*args)
+            taken.append(time.perf_counter() - before)
+        self.assertLess(min(taken), seconds)
 
     def test_looking_over(self):
-        self.takes_at_most(1.5, 2000, chart_wrong, GREAT)
+        self.takes_at_most(0.6, 2000, chart_wrong, GREAT)
 
     def test_questions(self):
-        self.takes_at_most(0.8, 1000, names_of, GREAT)
-        self.takes_at_most(0.8, 1000, parent_of, GREAT, "a3")
-        self.takes_at_most(0.8, 1000, sort_of, GREAT, "a16")
-        self.takes_at_most(0.8, 1000, within, GREAT, "g1", "a3")
-        self.takes_at_most(0.8, 1000, room_of, GREAT, "a16", 0)
+        for ask, *args in ((names_of,), (parent_of, "a3"), (sort_of, "a16"), (within, "g1", "a3"), (room_of, "a16", 0)):
+            self.takes_at_most(0.3, 1000, ask, GREAT, *args)
 
     def test_looking_over_what_is_none(self):
         thing = replaced(GREAT, (2, 2, 3, 2, 3, 5, 0, 3), ("zz",))
@@ -142,17 +175,65 @@ class TestTime(unittest.TestCase):
         self.takes_at_most(1.5, 1000, chart_wrong, thing)
 
     def test_steps(self):
+        """But little more than looking the chart over."""
         standing = start(GREAT)[0]
-        self.takes_at_most(1, 1000, step, GREAT, standing, "go1")
-        self.takes_at_most(1, 1000, trace, GREAT, standing, "tick")
-        self.takes_at_most(1, 1000, chosen, GREAT, standing, ("on", "go1"))
+        self.takes_at_most(0.35, 1000, standing_wrong, GREAT, standing)
+        self.takes_at_most(0.35, 1000, standing_wrong, GREAT, standing[:3] + ((("zz", ()),),))
+        for ask in (fits, chosen):
+            self.takes_at_most(0.4, 1000, ask, GREAT, standing, ("on", "go1"))
+        for ask in (step, trace):
+            self.takes_at_most(0.5, 1000, ask, GREAT, standing, "go1")
+            self.takes_at_most(0.5, 1000, ask, GREAT, standing, "tick")
 
     def test_runs(self):
-        self.takes_at_most(1, 1000, Run, GREAT)
-        self.takes_at_most(1, 1000, Coded, code(GREAT))
+        self.takes_at_most(0.5, 1000, Run, GREAT)
         for run in (Run(GREAT), Coded(code(GREAT))):
-            self.takes_at_most(1, 5000, run.tell, "tick")
-            self.assertEqual(len(run), 5000)
+            self.takes_at_most(0.3, 5000, run.tell, "tick")
+            self.takes_at_most(0.2, 1000, run.copy)
+            self.assertEqual(len(run), 15000)
+
+    def test_code(self):
+        rows = code(GREAT)
+        text = code_text(rows)
+        self.takes_at_most(0.7, 1000, code, GREAT)
+        self.takes_at_most(0.08, 1000, code_text, rows)
+        self.takes_at_most(0.12, 1000, read_code, text)
+        self.takes_at_most(0.3, 1000, Coded, rows)
+        self.assertEqual(read_code(text), rows)
+
+    def test_reading(self):
+        self.takes_at_most(0.5, 200, read_chart, great_text())
+
+    def test_many_standings(self):
+        """A chart is looked over once in a call, not once for each standing or step."""
+        long = read_chart(["fact n 0 1999 0", "on a", "on b", "one r", "  leaf x", "    go on a do set n n + 1",
+                           "    go on b if 0 < n do set n n - 1"])
+        papers = [(saying, settled(long, saying)) for saying in (("unsaid", "zz"), ("can", ("yes",), ("in", "x")))]
+        some, cover = trials(long)
+        pairs = alike(long, long)
+        self.takes_at_most(0.5, 1, reach, long)
+        for saying, paper in papers:
+            self.takes_at_most(0.5, 1, settled, long, saying)
+            self.takes_at_most(0.5, 1, judged, long, saying, paper)
+        self.takes_at_most(0.5, 1, trials, long)
+        self.takes_at_most(0.5, 1, cover_wrong, long, some, cover)
+        self.takes_at_most(0.5, 1, idle, long)
+        self.takes_at_most(0.5, 1, alike, long, long)
+        self.takes_at_most(0.5, 1, alike_wrong, long, long, pairs)
+        # Any two are parted by how often a is not refused alone.
+        self.takes_at_most(1, 1, lots, long)
+        self.takes_at_most(1, 1, apart, long, 0, 1)
+        self.assertEqual(apart(long, 0, 1), ["a"] * 1999)
+
+    def test_whats_that_come_again(self):
+        """It is found out that they do ahead of the last one."""
+        told = read_chart(["on a", "one r", "  leaf x", "    go on a do raise a to y", "  leaf y", "    go on a do raise a to x"])
+        run = Run(told)
+
+        def tell():
+            with self.assertRaises(Endless):
+                run.tell("a")
+        self.takes_at_most(0.5, 1000, tell)
 
 
 if __name__ == "__main__":

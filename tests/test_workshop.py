@@ -4,6 +4,7 @@ import inspect
 import random
 import unittest
 
+from deepstands.charts import names_of
 from deepstands.errors import (Beyond, Endless, NoBack, NoChart, NoHappening, NoLead, NoRun, NoText, NoTitle, Taken)
 from deepstands.leads import change_wrong, led
 from deepstands.runs import Run
@@ -227,7 +228,7 @@ class TestEdit(Refusing):
         for seed in range(60):
             drawn = Drawn(seed)
             other = Wild(drawn.by.randint(0, 10 ** 9)).chart()
-            names = dict(zip(drawn.slow.plain.order, [name for name in printed_names(other)]))
+            names = dict(zip(drawn.slow.plain.order, names_of(other)))
             shop = Workshop(printed(drawn.chart))
             shop.start("a")
             standing = shop.standing("a")
@@ -237,11 +238,6 @@ class TestEdit(Refusing):
                 self.assertEqual(shop.standing("a"), led(drawn.chart, other, standing, names))
             else:
                 self.refused(shop, NoLead, {"title": "a", "wrong": wrong}, shop.edit, printed(other), names=names)
-
-
-def printed_names(chart):
-    from deepstands.charts import names_of
-    return names_of(chart)
 
 
 class TestBack(Refusing):
