@@ -7,7 +7,7 @@ from deepstands.terms import holds
 
 
 class Case:
-    """A saying that no row says is broken but by what a happening does; those of other kinds are classes below."""
+    """A saying asked of a web, as far as all words are alike; each word has a class below."""
 
     def __init__(self, web, saying):
         self.web = web

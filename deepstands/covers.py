@@ -15,7 +15,7 @@ def strange_in(web, row):
 
 
 def way_by(web, row):
-    """Of each happening of a row that is gone by from the begin its cell, and the number of the standing behind it."""
+    """The cells of a row's happenings, as it is gone by from the begin."""
     cells = []
     number = 0
     for happening in row:
