@@ -3,7 +3,7 @@
 from deepstands.errors import NoNumber
 from deepstands.kinds import is_whole
 from deepstands.pairs import Pairs, Sides, alike_fault
-from deepstands.plan import plan_of
+from deepstands.plan import shared_plan_of
 from deepstands.reach import MOST_STANDINGS
 from deepstands.tables import is_table, lots_of, parted, row_unlike
 from deepstands.web import web_of_all
@@ -30,14 +30,14 @@ def alike_wrong(one, other, thing):
 
 def lots(chart, *, most=MOST_STANDINGS):
     """The numbers of standings, parted by what rows tell from them."""
-    return lots_of(parted(web_of_all(plan_of(chart), most)))
+    return lots_of(parted(web_of_all(shared_plan_of(chart), most)))
 
 
 def apart(chart, one, other, *, most=MOST_STANDINGS):
     """A shortest row that parts two standings, by their numbers, the first of these; None where none does."""
-    web = web_of_all(plan_of(chart), most)
+    web = web_of_all(shared_plan_of(chart), most)
     for number in (one, other):
-        if not is_whole(number) or not 0 <= number < len(web.states):
+        if not is_whole(number) or not 0 <= number < len(web.codes):
             raise NoNumber()
     row = parted(web).row_apart(one, other)
     return None if row is None else [web.happenings[at] for at in row]
@@ -45,7 +45,7 @@ def apart(chart, one, other, *, most=MOST_STANDINGS):
 
 def least_table(chart, *, most=MOST_STANDINGS):
     """The table of a chart that has the fewest lots."""
-    web = web_of_all(plan_of(chart), most)
+    web = web_of_all(shared_plan_of(chart), most)
     parting = parted(web)
     all_lots = lots_of(parting)
     numbers = {parting.blocks[lot[0]]: number for number, lot in enumerate(all_lots)}
@@ -57,7 +57,7 @@ def least_table(chart, *, most=MOST_STANDINGS):
 
 def table_wrong(chart, thing, *, most=MOST_STANDINGS):
     """None where a thing is a table of which all rows tell the same as a chart, else the first that is wrong."""
-    web = web_of_all(plan_of(chart), most)
+    web = web_of_all(shared_plan_of(chart), most)
     if not is_table(thing, len(web.happenings)):
         return ("form",)
     row = row_unlike(web, thing)

@@ -39,7 +39,7 @@ def is_single(plan, kind, thing):
     if kind == "when":
         return thing is None or plan.knows_happening(thing)
     if kind == "fact":
-        return isinstance(thing, str) and thing in plan.spans
+        return isinstance(thing, str) and thing in plan.fields
     if kind == "stand":
         return plan.tree.is_plain(thing)
     return is_name(thing)

@@ -57,4 +57,4 @@ def room_of(chart, name, move):
     if not is_whole(move) or not 0 <= move < len(moves):
         raise NoMove(own(move))
     goals = [tree.numbers[goal] for goal in moves[move][3]]
-    return tree.names[tree.room(number, goals)] if goals else None
+    return tree.names[tree.least_room(number, goals)] if goals else None

@@ -1,75 +1,120 @@
 """What a chart does by rows of happenings, and whether trials and their cover are right. Nothing is known here of how
 they were made."""
 
-from deepstands.goals import begin_comes_to, cell_comes_to, goal_of, goals_of
+from deepstands.choices import table_of
+from deepstands.goals import begin_comes_to, goal_of, goals_of
 from deepstands.kinds import is_whole
+from deepstands.moment import outcome_by, outcome_of_begin, unrefused
 from deepstands.papers import has_truth, numbers_for
+from deepstands.plan import what_of
 
 
-def strange_in(web, row):
-    """The number of the first thing of a row that is no happening, None where all are."""
-    for k, thing in enumerate(row):
-        if not web.plan.knows_happening(thing):
-            return k
-    return None
+class Going:
+    """Rows of happenings, as a plan's chart is gone by from its begin, told what that says and its code."""
+
+    def __init__(self, plan, told, code):
+        self.plan = plan
+        self.opening = ("told", list(told), plan.stood_at(code))
+        self.code = code
+        # By codes, and then by happenings, tuples (told, behind, went): what is told of a happening in a trial, the
+        # code behind it, the addresses of the moves chosen; by happenings the tables of their whats.
+        self.known = {code: {}}
+        self.tables = {}
+
+    def note(self, code, happening):
+        """Notes a happening at a code; None where it is none."""
+        plan = self.plan
+        table = self.tables.get(happening)
+        if table is None:
+            if not plan.knows_happening(happening):
+                return None
+            table = self.tables[happening] = table_of(plan, what_of(happening))
+        told, went, behind, _ = outcome_by(plan, code, table.entry(plan, code))
+        told = ("refused", told) if isinstance(told, str) else ("told", list(told), plan.stood_at(behind))
+        found = self.known[code][happening] = (told, behind, went)
+        if behind not in self.known:
+            self.known[behind] = {}
+        return found
+
+    def steps_by(self, row):
+        """The same of each happening of a row, as far as they are happenings."""
+        known = self.known
+        found = []
+        code = self.code
+        for happening in row:
+            if not isinstance(happening, str):
+                return found
+            step = known[code].get(happening) or self.note(code, happening)
+            if step is None:
+                return found
+            found.append(step)
+            code = step[1]
+        return found
+
+    def outcomes(self, row):
+        """What the begin, and then each happening of a row, does, as far as they are happenings; not to be changed or
+        handed out."""
+        return [self.opening] + [told for told, _, _ in self.steps_by(row)]
 
 
-def way_by(web, row):
-    """The cells of a row's happenings, as it is gone by from the begin."""
-    cells = []
-    number = 0
-    for happening in row:
-        cells.append(web.cell(number, web.happenings.index(happening)))
-        number = cells[-1][2]
-    return cells
+def going_of(plan):
+    """The rows of a plan's chart; refused as its begin is."""
+    told, _, code, _ = unrefused(outcome_of_begin(plan))
+    return Going(plan, told, code)
 
 
-def outcome(web, told, behind):
-    """What is told of a happening in a trial."""
-    if isinstance(told, str):
-        return ("refused", told)
-    return ("told", list(told), web.states[behind][0].names)
-
-
-def outcomes(web, row):
-    """What the begin, and then each happening of a row, does."""
-    begin = outcome(web, web.begin_told, 0)
-    return [begin] + [outcome(web, told, behind) for told, _, behind in way_by(web, row)]
+def own_outcomes(told):
+    """Outcomes of which each has a list of its own."""
+    return [("told", [*outcome[1]], outcome[2]) if len(outcome) == 3 else outcome for outcome in told]
 
 
 def is_same(thing, wanted):
-    """Whether a thing is the same as what is wanted: a truth is no number."""
+    """Whether a thing is the same as what is wanted, to which it is equal: a truth is no number."""
     if isinstance(wanted, (tuple, list)):
-        return thing == wanted and not [k for k, part in enumerate(wanted) if not is_same(thing[k], part)]
-    return thing == wanted and isinstance(thing, bool) == isinstance(wanted, bool)
+        return not [k for k, part in enumerate(wanted) if not is_same(thing[k], part)]
+    return isinstance(thing, bool) == isinstance(wanted, bool)
 
 
-def outcome_wrong(web, row, told):
+def is_as_told(thing, wanted):
+    """Whether what is told of a happening is what is wanted."""
+    return thing == wanted and (not wanted[1] or is_same(thing[1], wanted[1]))
+
+
+def outcome_wrong(going, row, told):
     """The first number at which the chart doesn't do what is told of the begin and of a row, and how; None where it
     does all."""
-    for k, (thing, wanted) in enumerate(zip(told, outcomes(web, row))):
+    outcomes = going.outcomes(row)
+    for k, (thing, wanted) in enumerate(zip(told, outcomes)):
+        # Most say nothing.
+        if thing == wanted and not wanted[1] or is_as_told(thing, wanted):
+            continue
         if thing[0] != wanted[0] or wanted[0] == "refused" and thing[1] != wanted[1]:
             return (k, "told")
-        if wanted[0] == "told" and not is_same(thing[1], wanted[1]):
+        if wanted[0] == "told" and (thing[1] != wanted[1] or not is_same(thing[1], wanted[1])):
             return (k, "said")
         if wanted[0] == "told" and thing[2] != wanted[2]:
             return (k, "stood")
-    return None
+    # By what is no happening the chart does nothing, whatever is told.
+    return (len(outcomes), "told") if len(outcomes) < len(told) else None
 
 
-def is_right_trial(web, trial):
+def is_right_trial(going, trial):
     """Whether a thing is a trial that tells just what the chart does."""
     if not isinstance(trial, tuple) or len(trial) != 2 or not isinstance(trial[0], list):
         return False
-    return strange_in(web, trial[0]) is None and is_same(trial[1], outcomes(web, trial[0]))
+    row, told = trial
+    wanted = going.outcomes(row)
+    if len(wanted) <= len(row) or told != wanted:
+        return False
+    return not [k for k, thing in enumerate(told) if not is_as_told(thing, wanted[k])]
 
 
-def trials_wrong(web, some):
+def trials_wrong(going, some):
     """The first trial that is wrong."""
     if not isinstance(some, list):
         return ("trials", 0)
     for t, trial in enumerate(some):
-        if not is_right_trial(web, trial):
+        if not is_right_trial(going, trial):
             return ("trials", t)
     return None
 
@@ -109,7 +154,7 @@ class Seen:
                 told, went, behind = self.web.cell(number, at)
                 self.is_closed = self.is_closed and behind in there
                 if not isinstance(told, str):
-                    for goal in [*went, *[(stood, None) for stood in self.web.states[behind][0].stood]]:
+                    for goal in [*went, *[(name, None) for name in self.web.stood_at(behind)]]:
                         self.reached[goal] = True
 
     def shows_none(self, goal, things):
@@ -118,25 +163,34 @@ class Seen:
         return self.is_closed and goal not in self.reached and not begin_comes_to(self.web, goal)
 
 
+def step_comes_to(plan, step, goal):
+    """Whether the happening that makes a step comes to a goal."""
+    told, behind, went = step
+    if told[0] == "refused":
+        return False
+    return goal[0] in plan.stood_at(behind) if goal[1] is None else goal in went
+
+
 def is_by_right(web, ways, goal, paper):
-    """Whether a thing shows where a goal is come to; ways are the cells of the trials' happenings."""
+    """Whether a thing shows where a goal is come to; ways are the steps of the trials' rows."""
     if not isinstance(paper, tuple) or len(paper) != 3 or paper[0] != "by":
         return False
     _, t, k = paper
     if not is_whole(t) or not is_whole(k) or not 0 <= t < len(ways) or not 0 <= k <= len(ways[t]):
         return False
-    return begin_comes_to(web, goal) if k == 0 else cell_comes_to(web, ways[t][k - 1], goal)
+    return begin_comes_to(web, goal) if k == 0 else step_comes_to(web.plan, ways[t][k - 1], goal)
 
 
 def cover_fault(web, some, cover):
     """What is wrong first with trials and their cover, None where they are right."""
-    wrong = trials_wrong(web, some)
+    going = Going(web.plan, web.begin_told, web.codes[0])
+    wrong = trials_wrong(going, some)
     if wrong is not None:
         return wrong
     goals = goals_of(web.plan)
     if not are_covered(web.plan, goals, cover):
         return ("goals",)
-    ways = [way_by(web, trial[0]) for trial in some]
+    ways = [going.steps_by(trial[0]) for trial in some]
     seen = Seen(web)
     for k, goal in enumerate(goals):
         paper = cover[k][1]

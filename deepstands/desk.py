@@ -1,7 +1,7 @@
 """A desk: a workshop that is talked to in lines."""
 
 from deepstands.errors import NoLine
-from deepstands.moment import what_of
+from deepstands.plan import what_of
 from deepstands.standings import last_stood
 from deepstands.steps import fits
 from deepstands.texts import printed

@@ -1,14 +1,9 @@
-"""The first that is wrong with a thing that is no chart. Each function takes for granted that those ahead of it found
-nothing."""
+"""The first that is wrong with a thing that is no chart. What is wrong with one of many stands is looked for among half
+of them, then among half of these, and so on: so all that is looked at is about as much as the whole."""
 
 from deepstands.kinds import FULL_SORTS, GREATEST, MARKER_SORTS, is_name, is_whole
 from deepstands.parts import Parts
-from deepstands.tree import MOST_DEEP, Tree
-
-MOST_FACTS = 12
-MOST_HAPPENINGS = 20
-MOST_STANDS = 60
-MOST_MOVES = 120
+from deepstands.tree import MOST_DEEP, MOST_FACTS, MOST_HAPPENINGS, MOST_MOVES, MOST_STANDS
 
 
 def has_outline(thing):
@@ -55,8 +50,8 @@ def parts_of(chart):
 
 
 def has_form(stand):
-    """Whether it is made as a stand of its sort is, its moves and deeds and the stands in it left out."""
-    if not isinstance(stand, tuple) or len(stand) != 6 or not is_name(stand[0]):
+    """Whether it is made as a stand of its sort is, its name, its moves and deeds and the stands in it left out."""
+    if not isinstance(stand, tuple) or len(stand) != 6:
         return False
     if not all([isinstance(part, tuple) for part in stand[2:]]):
         return False
@@ -67,45 +62,85 @@ def has_form(stand):
     return stand[1] in ("leaf", "end") and stand[2] == ()
 
 
-def is_stand(chart, stand):
-    """Whether it is a stand by its own form, whatever the stands in it are."""
-    if not has_form(stand):
-        return False
+def first_of(many, is_right):
+    """The number of the first of so many that is wrong, as one of them is; is_right tells of some, from one number on
+    and ahead of another, whether all are right."""
+    low, high = 0, many
+    while high - low > 1:
+        middle = (low + high) // 2
+        if is_right(low, middle):
+            low = middle
+        else:
+            high = middle
+    return low
+
+
+def are_stands(chart, stands):
+    """Whether all of these, which have their form, are stands by what is in their moves and deeds, too."""
     parts = parts_of(chart)
-    return parts.take(stand[5], stand[3] + stand[4]) and parts.are_named()
+    for stand in stands:
+        parts.deeds.extend(stand[3] + stand[4])
+    if not parts.take_moves([(0, stand[5]) for stand in stands]) or not parts.take_rest() or not parts.are_named():
+        return False
+    return not [stand for stand in stands if not is_name(stand[0])]
 
 
-def stand_wrong(chart):
-    """The first stand that is none by its own form."""
-    waiting = [((), chart[2])]
-    while waiting:
-        address, stand = waiting.pop()
-        if not is_stand(chart, stand):
-            return ("stand", address)
-        inner = [(address + (k,), thing) for k, thing in enumerate(stand[2])]
-        waiting.extend(inner[::-1])
-    return None
+class Walk:
+    """All stands of a chart in order, as far as they have their form, by their numbers."""
+
+    def __init__(self, root):
+        self.stands = []
+        # The numbers of those they stand straight in, and their places among those straight in that.
+        self.above = []
+        self.places = []
+        self.deepest = 0
+        waiting = [(root, None, 0, 1)]
+        self.has_forms = True
+        while waiting and self.has_forms:
+            stand, above, place, deep = waiting.pop()
+            self.has_forms = has_form(stand)
+            self.above.append(above)
+            self.places.append(place)
+            if self.has_forms:
+                number = len(self.stands)
+                self.stands.append(stand)
+                self.deepest = max(self.deepest, deep)
+                inner = [(thing, number, k, deep + 1) for k, thing in enumerate(stand[2])]
+                waiting.extend(inner[::-1])
+
+    def address(self, number):
+        """The address of a stand, or of the first thing that has no form of one."""
+        address = []
+        while self.above[number] is not None:
+            address.append(self.places[number])
+            number = self.above[number]
+        return tuple(address[::-1])
 
 
-def stands_of(chart):
-    """All stands in the chart's order, each with how deep it is."""
-    told = []
-    waiting = [(chart[2], 1)]
-    while waiting:
-        stand, deep = waiting.pop()
-        told.append((stand, deep))
-        waiting.extend([(inner, deep + 1) for inner in stand[2][::-1]])
-    return told
+def stand_wrong(chart, walk, has_forms):
+    """The first stand that is none by its own form; where all have their form one must be none."""
+    stands = walk.stands
+    if not has_forms and are_stands(chart, stands):
+        return None if walk.has_forms else ("stand", walk.address(len(stands)))
+    return ("stand", walk.address(first_of(len(stands), lambda low, high: are_stands(chart, stands[low:high]))))
 
 
-def great_wrong(chart):
+def great_wrong(chart, walk):
     """Whether there is more of something than a chart may have."""
-    stands = stands_of(chart)
-    if len(chart[0]) > MOST_FACTS or len(chart[1]) > MOST_HAPPENINGS or len(stands) > MOST_STANDS:
+    if len(chart[0]) > MOST_FACTS or len(chart[1]) > MOST_HAPPENINGS or len(walk.stands) > MOST_STANDS:
         return ("great",)
-    many_moves = sum([len(stand[5]) for stand, _ in stands])
-    deepest = max([deep for _, deep in stands])
-    return ("great",) if deepest > MOST_DEEP or many_moves > MOST_MOVES else None
+    many_moves = sum([len(stand[5]) for stand in walk.stands])
+    return ("great",) if walk.deepest > MOST_DEEP or many_moves > MOST_MOVES else None
+
+
+def first_form_fault(thing, has_forms):
+    """What is wrong first with a thing that is no chart for its form, or for having more than it may; has_forms where
+    nothing but what is in names, moves and deeds of stands can be wrong."""
+    wrong = outline_wrong(thing) or fact_wrong(thing) or happening_wrong(thing)
+    if wrong is not None:
+        return wrong
+    walk = Walk(thing[2])
+    return stand_wrong(thing, walk, has_forms) or great_wrong(thing, walk)
 
 
 def first_again(names):
@@ -118,23 +153,24 @@ def first_again(names):
     return None
 
 
-def twice_wrong(chart):
+def twice_wrong(chart, tree):
     """The first name told twice: facts and stands share theirs, happenings have their own."""
-    name = first_again([fact[0] for fact in chart[0]] + [stand[0] for stand, _ in stands_of(chart)])
+    name = first_again([fact[0] for fact in chart[0]] + tree.names)
     if name is None:
         name = first_again(chart[1])
     return None if name is None else ("twice", name)
 
 
-def root_wrong(chart):
+def root_wrong(tree):
     """Whether the root can have no stands in it."""
-    return None if chart[2][1] in FULL_SORTS else ("root",)
+    return None if tree.has_root() else ("root",)
 
 
-def first_wrong(chart):
+def first_wrong(tree):
     """The first one of which no stand can be its first."""
-    for stand, _ in stands_of(chart):
-        if stand[1] == "one" and all([inner[1] in MARKER_SORTS for inner in stand[2]]):
+    for number, markers in tree.markers.items():
+        stand = tree.stands[number]
+        if stand[1] == "one" and len(markers) == len(stand[2]):
             return ("first", stand[0])
     return None
 
@@ -151,25 +187,13 @@ def misplaced(stand):
     return names
 
 
-def marker_wrong(chart):
+def marker_wrong(tree):
     """The first marker, in the chart's order, that may not stand where it does."""
-    stands = [stand for stand, _ in stands_of(chart)]
-    names = [name for stand in stands for name in misplaced(stand)]
-    for stand in stands:
-        if stand[0] in names:
-            return ("marker", stand[0])
+    names = [name for number in tree.markers for name in misplaced(tree.stands[number])]
+    for name in tree.names:
+        if name in names:
+            return ("marker", name)
     return None
-
-
-def are_together(tree, goals):
-    """Whether any two of the goals can be entered together."""
-    # The least stand that has two of them is that of two others that stand between these, or has it in it: so only
-    # those that are next to one another in the chart's order are looked at.
-    numbers = sorted([tree.numbers[goal] for goal in goals])
-    for one, other in zip(numbers, numbers[1:]):
-        if not tree.together(one, other):
-            return False
-    return True
 
 
 def names_word(tree, parts):
@@ -189,35 +213,52 @@ def names_word(tree, parts):
             # Number 0, the root's, is no goal's either.
             if not isinstance(goal, str) or not numbers.get(goal):
                 return "goal"
-        if len(goals) > 1 and not are_together(tree, goals):
+        if len(goals) > 1 and not tree.are_together([numbers[goal] for goal in goals]):
             return "goal"
     return None
 
 
-def row_word(chart, tree, number, moves, deeds):
-    """The word of what is wrong with moves of a stand, or with deeds of it, else None."""
+def word_of(chart, tree, moving, deeds, is_deep):
+    """The word of what is wrong with moves of stands, tuples (number, moves), or with deeds, else None; terms and
+    guards are looked at where it is deep."""
     parts = parts_of(chart)
-    parts.take(moves, deeds)
+    parts.deeds.extend(deeds)
+    parts.take_moves(moving)
+    parts.take_deeds()
+    if is_deep:
+        parts.take_levels()
     word = names_word(tree, parts)
-    return "done" if word is None and parts.done_movers and not tree.may_be_done(number) else word
+    if word is None and [number for number in parts.done_movers if not tree.may_be_done(number)]:
+        return "done"
+    return word
 
 
-def name_wrong(chart):
-    """The first row of a stand that names what isn't there, or may not be named there."""
-    tree = Tree()
-    tree.take_stands((chart[2],), None, 1, [])
-    for number, stand in enumerate(tree.stands):
-        rows = [((), stand[3]), ((), stand[4])] + [((move,), ()) for move in stand[5]]
-        for k, row in enumerate(rows):
-            word = row_word(chart, tree, number, row[0], row[1])
-            if word is not None:
-                return (word, stand[0], k)
+def are_rows_right(chart, tree, numbers, is_deep):
+    """Whether nothing is wrong with what the rows of stands name, by their numbers."""
+    stands = [tree.stands[number] for number in numbers]
+    moving = [(number, tree.stands[number][5]) for number in numbers]
+    deeds = [deed for stand in stands for deed in stand[3] + stand[4]]
+    return word_of(chart, tree, moving, deeds, is_deep) is None
+
+
+def name_wrong(chart, tree, is_deep):
+    """The first row of a stand that names what isn't there, or may not be named there, as one does."""
+    many = len(tree.stands)
+    number = first_of(many, lambda low, high: are_rows_right(chart, tree, list(range(low, high)), is_deep))
+    stand = tree.stands[number]
+    rows = [((), stand[3]), ((), stand[4])] + [((move,), ()) for move in stand[5]]
+    for k, (moves, deeds) in enumerate(rows):
+        word = word_of(chart, tree, [(number, moves)], deeds, is_deep)
+        if word is not None:
+            return (word, stand[0], k)
     return None
 
 
-def first_fault(thing):
-    """What is wrong first with a thing, None where it is a chart."""
-    return (
-        outline_wrong(thing) or fact_wrong(thing) or happening_wrong(thing) or stand_wrong(thing) or great_wrong(thing)
-        or twice_wrong(thing) or root_wrong(thing) or first_wrong(thing) or marker_wrong(thing) or name_wrong(thing)
-    )
+def first_name_fault(chart, tree, parts):
+    """What is wrong first with a thing that is no chart, but all stands of which are some by their own form, with the
+    tree of these and what was found in them."""
+    wrong = twice_wrong(chart, tree) or root_wrong(tree) or first_wrong(tree) or marker_wrong(tree)
+    if wrong is not None:
+        return wrong
+    asked = [name for name in parts.asked if not tree.is_plain(name)]
+    return name_wrong(chart, tree, len(parts.strange_facts) > 0 or len(asked) > 0)

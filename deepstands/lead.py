@@ -1,118 +1,152 @@
 """Leading a standing of one chart to another chart."""
 
-from deepstands.standings import last_stood, may_keep
+from deepstands.kinds import MARKER_SORTS
+from deepstands.plan import AGE_BITS
+from deepstands.standings import many_inside, numbers_kept
 
 
 class Lead:
-    """The way from a plan's chart to another plan's, by a dict of names, for a standing of the first one.
+    """The way from a plan's chart to another plan's, by a dict of names, for a code of the first one.
 
     What is wrong is told as a tuple of a refusal's word and its fields."""
 
-    def __init__(self, plan, other, standing, names):
+    def __init__(self, plan, other, code, names):
         self.plan = plan
         self.other = other
-        self.stood, self.worths, self.ages, self.kept = standing
+        self.code = code
+        self.names = plan.stood_at(code)
+        self.stood = [plan.numbers[name] for name in self.names]
         self.by_names = names
+        self.lacking = 0
+        # The numbers of the images of what is stood in, None of those that are no stands there, or markers.
+        markers, numbers = other.tree.markers, other.numbers
+        if names or markers:
+            self.images = [self.number_there(name) for name in self.names]
+        else:
+            self.images = [numbers.get(name) for name in self.names]
 
     def image(self, name):
         """What a name stands for."""
         return self.by_names.get(name, name)
 
     def number_there(self, name):
-        """The number of the image of a stand."""
-        return self.other.numbers[self.image(name)]
+        """The number of the image of a stand, None where that is none, or a marker."""
+        number = self.other.numbers.get(self.by_names.get(name, name))
+        return None if number is None or self.other.stands[number][1] in MARKER_SORTS else number
 
-    def gone_wrong(self):
-        """The first that is stood in whose image isn't there."""
-        for name in self.stood:
-            if not self.other.tree.is_plain(self.image(name)):
-                return ("Gone", name)
+    def apart_wrong(self, lasts):
+        """The first two of the last ones, told by their places, whose images can't be stood in together."""
+        for k, one in enumerate(lasts):
+            for other in lasts[k + 1:]:
+                if not self.other.tree.together(self.images[one], self.images[other]):
+                    return ("Apart", self.names[one], self.names[other])
         return None
 
-    def apart_wrong(self):
-        """The first two of the last ones whose images can't be stood in together."""
-        names = last_stood(self.plan, self.stood)
-        for at, one in enumerate(names):
-            for other in names[at + 1:]:
-                if not self.other.tree.together(self.number_there(one), self.number_there(other)):
-                    return ("Apart", one, other)
-        return None
+    def bits_wanted(self, lasts):
+        """The bits of the images of the last ones, told by their places, and of all that have them in them; None where
+        any two of these are apart."""
+        above, stands = self.other.tree.above, self.other.stands
+        ends = wanted = 0
+        # How many more stands must be stood in straight in these than are.
+        self.lacking = 1
+        for place in lasts:
+            number = self.images[place]
+            if wanted >> number & 1:
+                return None
+            ends |= 1 << number
+            while number is not None and not wanted >> number & 1:
+                wanted |= 1 << number
+                self.lacking += many_inside(stands[number]) - 1
+                number = above[number]
+            # Here it meets the way up from one ahead.
+            if number is not None and (ends >> number & 1 or stands[number][1] == "one"):
+                return None
+        return wanted
 
-    def numbers_stood(self):
-        """The numbers of what is stood in then, in order."""
+    def bits_stood(self, wanted):
+        """The bits of what is stood in then."""
+        if self.lacking == 0:
+            return wanted
         other = self.other
-        wanted = {}
-        for name in last_stood(self.plan, self.stood):
-            number = self.number_there(name)
-            while number is not None:
-                wanted[number] = True
-                number = other.tree.above[number]
-        found = []
+        found = wanted
         opened = [0]
         while opened:
             number = opened.pop()
-            found.append(number)
-            inner = other.inner(number)
-            if other.stands[number][1] == "one":
+            found |= 1 << number
+            sort = other.stands[number][1]
+            if sort == "all":
+                opened.extend(other.inner(number))
+            elif sort == "one":
                 # As none of the last ones are apart, one of them is wanted at most.
-                inner = [k for k in inner if k in wanted] or inner[:1]
-            opened.extend(inner)
-        return sorted(found)
+                inner = other.inner(number)
+                opened.extend([k for k in inner if wanted >> k & 1] or inner[:1])
+        return found
 
-    def moved_wrong(self, numbers):
+    def moved_wrong(self, stood):
         """The first that is stood in whose image isn't stood in then."""
-        for name in self.stood:
-            if self.number_there(name) not in numbers:
+        for name, image in zip(self.names, self.images):
+            if not stood >> image & 1:
                 return ("Moved", name)
         return None
 
     def worths_led(self):
         """The worths of the other chart's facts, whatever their spans."""
         led = {}
-        for fact, worth in zip(self.plan.facts, self.worths):
-            led.setdefault(self.image(fact[0]), worth)
+        for name, worth in self.plan.worths_by_name(self.code).items():
+            led.setdefault(self.image(name), worth)
         return tuple([led.get(name, first) for name, _, _, first in self.other.facts])
 
-    def beyond_wrong(self):
+    def beyond_wrong(self, worths):
         """The first fact that would get a worth out of its span."""
-        for (name, low, high, _), worth in zip(self.other.facts, self.worths_led()):
+        for (name, low, high, _), worth in zip(self.other.facts, worths):
             if not low <= worth <= high:
                 return ("Beyond", name, None)
         return None
 
-    def ages_led(self, numbers):
-        """The ages of what is stood in then."""
-        ages = dict(self.ages)
-        led = {}
-        for name in self.stood:
-            led.setdefault(self.number_there(name), ages.get(name, 0))
+    def ages_led(self, code):
+        """The bits of the ages of those that have one then, by the bits of what is stood in then."""
         greatest = self.other.tree.greatest
-        aging = [number for number in numbers if number in greatest]
-        return tuple([(self.other.names[k], min(led.get(k, 0), greatest[k] + 1)) for k in aging])
+        ages = {number: self.code >> shift & AGE_BITS for number, shift in self.plan.aging_at(self.code)}
+        led = {}
+        for number, image in zip(self.stood, self.images):
+            led.setdefault(image, ages.get(number, 0))
+        bits = 0
+        for number, shift in self.other.aging_at(code):
+            bits |= min(led.get(number, 0), greatest[number] + 1) << shift
+        return bits
 
     def kept_led(self):
-        """What the other chart's markers keep."""
+        """The bits of what the other chart's markers keep."""
+        names, other = self.plan.names, self.other
         first = {}
-        for marker, names in self.kept:
-            first.setdefault(self.image(marker), names)
+        for marker, numbers in self.plan.kept_at(self.code):
+            first.setdefault(self.image(names[marker]), [names[number] for number in numbers])
         kept = []
-        for number, stand in enumerate(self.other.stands):
-            if stand[1] in ("back", "deep") and stand[0] in first:
+        for marker, stand in enumerate(other.stands):
+            if stand[1] in MARKER_SORTS and stand[0] in first:
                 images = [self.image(name) for name in first[stand[0]]]
-                numbers = [self.other.numbers[image] for image in images if image in self.other.numbers]
-                names = tuple([self.other.names[k] for k in sorted(numbers)])
-                if len(numbers) == len(images) and may_keep(self.other, number, names):
-                    kept.append((stand[0], names))
-        return tuple(kept)
+                there = sorted([other.numbers[image] for image in images if image in other.numbers])
+                numbers = numbers_kept(other, marker, [other.names[number] for number in there])
+                if len(there) == len(images) and numbers is not None:
+                    kept.append((marker, tuple(numbers)))
+        return other.bits_kept(tuple(kept))
 
     def outcome(self):
-        """The standing to which it leads, None where it leads to none; and what is wrong then."""
-        wrong = self.gone_wrong() or self.apart_wrong()
+        """The code to which it leads, None where it leads to none; and what is wrong then."""
+        if None in self.images:
+            return None, ("Gone", self.names[self.images.index(None)])
+        last = self.plan.tree.last
+        lasts = [place for place, number in enumerate(self.stood) if last[number] == number]
+        wanted = self.bits_wanted(lasts)
+        if wanted is None:
+            return None, self.apart_wrong(lasts)
+        code = self.bits_stood(wanted)
+        worths = self.worths_led()
+        wrong = self.moved_wrong(code) or self.beyond_wrong(worths)
         if wrong is not None:
             return None, wrong
-        numbers = self.numbers_stood()
-        wrong = self.moved_wrong(numbers) or self.beyond_wrong()
-        if wrong is not None:
-            return None, wrong
-        names = tuple([self.other.names[number] for number in numbers])
-        return (names, self.worths_led(), self.ages_led(numbers), self.kept_led()), None
+        if self.other.shifts:
+            code |= self.ages_led(code)
+        if self.plan.kept_at(self.code):
+            code |= self.kept_led()
+        return code | self.other.bits_of_worths(worths), None

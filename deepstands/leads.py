@@ -3,22 +3,22 @@
 from deepstands.errors import Apart, Beyond, Gone, Moved
 from deepstands.lead import Lead
 from deepstands.plan import plan_of
-from deepstands.standings import state_for
+from deepstands.standings import standing_of, code_for
 
 
-def outcome_of(chart, other, standing, names):
-    """The standing to which a standing is led, and what is wrong where it is led to none."""
+def lead_of(chart, other, standing, names):
+    """The way of a standing of a chart to another one."""
     plan = plan_of(chart)
     other_plan = plan_of(other)
-    state_for(plan, standing)
-    return Lead(plan, other_plan, standing, names).outcome()
+    return Lead(plan, other_plan, code_for(plan, standing), names)
 
 
 def led(chart, other, standing, names):
     """The standing of another chart to which a standing of a chart is led, by a dict from old names to new ones."""
-    target, wrong = outcome_of(chart, other, standing, names)
+    lead = lead_of(chart, other, standing, names)
+    code, wrong = lead.outcome()
     if wrong is None:
-        return target
+        return standing_of(lead.other, code)
     if wrong[0] == "Gone":
         raise Gone(wrong[1])
     if wrong[0] == "Apart":
@@ -30,4 +30,4 @@ def led(chart, other, standing, names):
 
 def change_wrong(chart, other, standing, names):
     """None where a standing can be led to another chart, else the word of the refusal and its fields."""
-    return outcome_of(chart, other, standing, names)[1]
+    return lead_of(chart, other, standing, names).outcome()[1]

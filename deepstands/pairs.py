@@ -2,7 +2,7 @@
 
 from deepstands.errors import TooGreat, Unlike
 from deepstands.papers import number_for
-from deepstands.plan import plan_of
+from deepstands.plan import shared_plan_of
 from deepstands.web import Web
 
 
@@ -11,8 +11,8 @@ class Sides:
     numbers of two standings; happenings are told by their numbers in the first one."""
 
     def __init__(self, one, other):
-        first_plan = plan_of(one)
-        second_plan = plan_of(other)
+        first_plan = shared_plan_of(one)
+        second_plan = shared_plan_of(other)
         if sorted(first_plan.happenings) != sorted(second_plan.happenings):
             raise Unlike()
         self.first = Web(first_plan)

@@ -2,14 +2,13 @@
 
 from deepstands.cases import Can, Within
 from deepstands.kinds import is_whole
-from deepstands.standings import fault_of, state_of
+from deepstands.standings import read_standing
 
 
 def number_for(web, thing):
     """The number of a standing, None of what is none."""
-    if fault_of(web.plan, thing) is not None:
-        return None
-    return web.number_of(state_of(web.plan, thing), None)
+    wrong, code = read_standing(web.plan, thing)
+    return web.number_of(code, None) if wrong is None else None
 
 
 def has_truth(standing):
@@ -53,25 +52,22 @@ def pairs_for(web, things, greatest):
 def rows_for(case, things):
     """The rows of a paper that holds, None where they are none by form."""
     if isinstance(case, Within):
-        rows = pairs_for(case.web, things, case.saying[3])
+        pairs = pairs_for(case.web, things, case.saying[3])
+        rows = None if pairs is None else [case.row_of(number, wait) for number, wait in pairs]
     elif isinstance(case, Can):
-        rows = pairs_for(case.web, things, None)
-        if rows is not None:
-            case.ranks = dict(rows)
-            rows = [(number, None) for number, _ in rows]
+        pairs = pairs_for(case.web, things, None)
+        case.ranks = dict(pairs or ())
+        rows = None if pairs is None else [number for number, _ in pairs]
     else:
-        numbers = numbers_for(case.web, things)
-        rows = None if numbers is None else [(number, None) for number in numbers]
+        rows = numbers_for(case.web, things)
     return None if rows is None or len(set(rows)) < len(rows) else rows
 
 
-def follows_wrong(case, rows):
+def follows_wrong(case, rows, there):
     """The first row, and the first happening, by which what must follow isn't there."""
-    there = {row: True for row in rows}
     for k, row in enumerate(rows):
-        for at in range(len(case.web.happenings)):
-            following = case.follow(row, at)
-            if following is not None and following not in there:
+        for at, following in enumerate(case.follows(row)):
+            if following not in there:
                 return ("follows", k, at)
     return None
 
@@ -81,9 +77,10 @@ def holds_wrong(case, things):
     rows = rows_for(case, things)
     if rows is None:
         return ("paper",)
-    if case.begin() not in rows or case.is_begin_barred():
+    there = {row: True for row in rows}
+    if case.begin() not in there or case.is_begin_barred():
         return ("begin",)
-    wrong = follows_wrong(case, rows)
+    wrong = follows_wrong(case, rows, there)
     if wrong is not None:
         return wrong
     for k, row in enumerate(rows):
@@ -102,20 +99,24 @@ def steps_for(case, row):
         if not web.plan.knows_happening(thing):
             return steps, k
         at = web.happenings.index(thing)
-        if web.is_refused(number, at) and not case.lets_refused(at, k == len(row) - 1):
+        told, _, behind = web.cell(number, at)
+        if isinstance(told, str) and not case.lets_refused(at, k == len(row) - 1):
             return steps, k
         steps.append(at)
-        number = web.cell(number, at)[2]
+        number = behind
     return steps, None
 
 
 def showings(case, steps):
     """Whether the begin, and then each happening, shows that the saying isn't so."""
     row = case.begin()
+    number = 0
     shown = [case.is_begin_bad()]
     for at in steps:
-        shown.append(case.shows(row, at))
+        cell = case.web.cell(number, at)
+        shown.append(case.is_shown(row, at, cell))
         row = case.next_row(row, at)
+        number = cell[2]
     return shown
 
 
@@ -129,13 +130,15 @@ def end_of(web, steps):
 
 def without_wrong(case, end, numbers):
     """What is wrong first with the standings of a broken can, end the one to which its row leads."""
-    if end not in numbers:
+    there = {number: True for number in numbers}
+    if end not in there:
         return ("begin",)
-    wrong = follows_wrong(case, [(number, None) for number in numbers])
+    wrong = follows_wrong(case, numbers, there)
     if wrong is not None:
         return wrong
+    flags = case.second.flags()
     for k, number in enumerate(numbers):
-        if case.has(2, number):
+        if flags[number]:
             return ("bad", k)
     return None
 
@@ -153,7 +156,7 @@ def broken_wrong(case, paper):
         return ("row", wrong_at)
     if is_can:
         end = end_of(case.web, steps)
-        return without_wrong(case, end, numbers) if case.has(1, end) else ("end",)
+        return without_wrong(case, end, numbers) if case.first.flags()[end] else ("end",)
     shown = showings(case, steps)
     if not shown[-1]:
         return ("end",)

@@ -30,6 +30,7 @@ class Parts:
         self.asked = []
         self.words = {}
         self.goals = []
+        self.many_moves = 0
         # By the numbers of stands the greatest n of an after; those that have a done.
         self.greatest = {}
         self.done_movers = {}
@@ -52,7 +53,7 @@ class Parts:
                 if not isinstance(move, tuple) or len(move) != 4:
                     return False
                 when, guard, deeds, goals = move
-                if not isinstance(deeds, tuple) or not isinstance(goals, tuple) or not isinstance(when, tuple):
+                if not isinstance(when, tuple) or not isinstance(goals, tuple):
                     return False
                 if len(when) == 2:
                     word, thing = when
@@ -69,13 +70,16 @@ class Parts:
                     self.done_movers[number] = True
                 else:
                     return False
-                # Most moves have no guard.
+                # Most moves have no guard, and many no deeds.
                 if guard != YES:
                     all_guards.append(guard)
-                if deeds:
+                if deeds and isinstance(deeds, tuple):
                     all_deeds.extend(deeds)
+                elif deeds != ():
+                    return False
                 if goals:
                     all_goals.append(goals)
+        self.many_moves = sum([len(moves) for _, moves in movers])
         return True
 
     def take_deeds(self):

@@ -87,19 +87,28 @@ class Made(Plan):
     """A plan of which the guards and deeds of stands and moves are texts."""
 
     def __init__(self, facts, happenings, tree):
-        Plan.__init__(self, facts, happenings, tree)
+        Plan.__init__(self, facts, happenings, tree, True)
+        self.yes = "yes"
         # What was read, by the texts.
         self.guards_read = {}
         self.deeds_read = {}
 
     def read_guard(self, part):
-        """The guard of a move, None where it always holds."""
-        if part == "yes":
-            return None
+        """The guard of a move."""
         found = self.guards_read.get(part)
         if found is None:
             found = self.guards_read[part] = part_of(part.split(" "))
         return found
+
+    def bits_asked_in(self, part):
+        """The bits of the stands that the guard of a move asks for."""
+        if ASKED not in part:
+            return 0
+        return self.bits_of([self.numbers[word[1:]] for word in part.split(" ") if word[0] == ASKED])
+
+    def all_moving(self):
+        """Tuples (number, moves) of all stands that have moves."""
+        return [(number, stand[5]) for number, stand in enumerate(self.stands) if stand[5]]
 
     def read_deeds(self, part):
         """The deeds of a stand or of a move."""
@@ -148,6 +157,8 @@ def add_stand(tree, row):
     number = tree.add_stand((name, sort, (), into, out, []), above)
     if sort == "back" or sort == "deep":
         tree.markers.setdefault(above, []).append(number)
+    if out:
+        tree.outs.append(number)
     # All that it is in goes on to here.
     while above is not None:
         tree.last[above] = number

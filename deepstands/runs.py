@@ -1,6 +1,6 @@
 """Runs: charts that are gone by."""
 
-from deepstands.plan import plan_of
+from deepstands.plan import shared_plan_of
 from deepstands.track import Copied, track_of
 
 
@@ -10,7 +10,7 @@ class Run:
     def __init__(self, chart):
         is_copy = isinstance(chart, Copied)
         self.whole = chart.whole if is_copy else chart
-        self.track = chart.track if is_copy else track_of(plan_of(chart))
+        self.track = chart.track if is_copy else track_of(shared_plan_of(chart))
 
     def tell(self, happening):
         """Does a step by a happening, or tick; told is what it said."""

@@ -4,7 +4,7 @@ from deepstands.asking import saying_path
 from deepstands.cases import Can, case_of
 from deepstands.errors import NoSaying, TooGreat
 from deepstands.papers import paper_wrong
-from deepstands.plan import plan_of
+from deepstands.plan import plan_of, shared_plan_of
 from deepstands.reach import MOST_STANDINGS
 from deepstands.web import Web
 
@@ -16,72 +16,101 @@ def saying_wrong(chart, thing):
 
 def case_for(chart, saying):
     """A saying asked of a chart."""
-    plan = plan_of(chart)
+    plan = shared_plan_of(chart)
     wrong = saying_path(plan, saying)
     if wrong is not None:
         raise NoSaying(wrong)
     return case_of(Web(plan), saying)
 
 
-class Search:
-    """The rows of a saying as they are come to, the first first."""
+def plain_search(case, most):
+    """Goes on from each row of a saying, the rows being the standings as the web comes to them. Told is the first row
+    of happenings that shows that the saying isn't so, None where none does; more than most rows are refused."""
+    web = case.web
+    number = 0
+    while number < len(web.codes):
+        if not case.ends or not case.first.flags()[number]:
+            cells = web.cells(number)
+            shown = case.first_shown(number, cells)
+            if shown is not None or len(web.codes) > most:
+                for at, (_, _, behind) in enumerate(cells):
+                    if at == shown:
+                        return [*web.row_to(number), web.happenings[at]]
+                    if behind >= most:
+                        raise TooGreat(most)
+        number += 1
+    return None
 
-    def __init__(self, first):
-        self.rows = [first]
-        self.places = {first: 0}
+
+class Search:
+    """The rows of a within as they are come to, the first first."""
+
+    def __init__(self, case, most):
+        self.case = case
+        self.most = most
+        self.rows = [case.begin()]
+        self.places = {case.begin(): 0}
         # By the places of rows the place of the row, and the happening, from which each was come to first.
         self.origins = [None]
 
-    def note(self, row, place, at, most):
-        """Notes a row that follows the one at a place; more than most are refused."""
-        if row in self.places:
-            return
-        if len(self.rows) >= most:
-            raise TooGreat(most)
+    def note(self, row, place, at):
+        """Notes a row that wasn't come to as yet; more than most are refused."""
+        if len(self.rows) >= self.most:
+            raise TooGreat(self.most)
         self.places[row] = len(self.rows)
         self.rows.append(row)
         self.origins.append((place, at))
 
-    def way_to(self, place):
-        """The numbers of the happenings that lead to the row at a place."""
-        steps = []
+    def way_by(self, place, at):
+        """The happenings that lead to the row at a place, and one more."""
+        happenings = self.case.web.happenings
+        row = [happenings[at]]
         while self.origins[place] is not None:
             place, at = self.origins[place]
-            steps.append(at)
-        return steps[::-1]
+            row.append(happenings[at])
+        return row[::-1]
+
+    def go_through(self):
+        """Goes on from each row by each happening; told is the first row of happenings that shows that the saying isn't
+        so, None where none does."""
+        case, places = self.case, self.places
+        place = 0
+        while place < len(self.rows):
+            row = self.rows[place]
+            shown = case.tick_at if row % case.width == 0 and case.is_bad(row) else None
+            for at, following in enumerate(case.follows(row)):
+                if at == shown:
+                    return self.way_by(place, at)
+                if following not in places:
+                    self.note(following, place, at)
+            place += 1
+        return None
 
 
 def paper_of(case, most):
     """The paper of a saying other than can."""
     web = case.web
-    search = Search(case.begin())
     if case.is_begin_bad():
         return ("broken", [])
-    place = 0
-    while place < len(search.rows):
-        row = search.rows[place]
-        for at in range(len(web.happenings)):
-            if case.shows(row, at):
-                return ("broken", [web.happenings[step] for step in [*search.way_to(place), at]])
-            following = case.follow(row, at)
-            if following is not None:
-                search.note(following, place, at, most)
-        place += 1
-    if case.saying[0] == "within":
-        return ("holds", [(web.standing_at(number), wait) for number, wait in search.rows])
-    return ("holds", [web.standing_at(number) for number, _ in search.rows])
+    if case.saying[0] != "within":
+        row = plain_search(case, most)
+        return ("holds", web.all_standings()) if row is None else ("broken", row)
+    search = Search(case, most)
+    row = search.go_through()
+    if row is not None:
+        return ("broken", row)
+    pairs = [case.pair_of(row) for row in search.rows]
+    return ("holds", [(web.standing_at(number), wait) for number, wait in pairs])
 
 
 def ranks_of(case):
     """By the numbers of standings how many happenings lead at least to one with h, where any do; of all come to."""
     web = case.web
-    many = len(web.states)
-    ahead = [[] for _ in range(many)]
-    for number in range(many):
-        for told, _, behind in web.rows[number]:
-            if not isinstance(told, str):
-                ahead[behind].append(number)
-    level = [number for number in range(many) if case.has(2, number)]
+    ahead = [[] for _ in web.rows]
+    for number, row in enumerate(web.rows):
+        for _, _, behind in row:
+            ahead[behind].append(number)
+    level = [number for number, has_second in enumerate(case.second.flags()) if has_second]
     ranks = {number: 0 for number in level}
     rank = 0
     while level:
@@ -101,9 +130,8 @@ def all_behind(web, number):
     found = {number: True}
     waiting = [number]
     while waiting:
-        further = waiting.pop()
-        for told, _, behind in web.rows[further]:
-            if not isinstance(told, str) and behind not in found:
+        for _, _, behind in web.rows[waiting.pop()]:
+            if behind not in found:
                 found[behind] = True
                 waiting.append(behind)
     return list(found)
@@ -114,8 +142,8 @@ def can_paper(case, most):
     web = case.web
     web.go_through(most)
     ranks = ranks_of(case)
-    for number in range(len(web.states)):
-        if number not in ranks and case.has(1, number):
+    for number, has_first in enumerate(case.first.flags()):
+        if has_first and number not in ranks:
             return ("broken", web.row_to(number), [web.standing_at(other) for other in all_behind(web, number)])
     return ("holds", [(standing, ranks.get(number)) for number, standing in enumerate(web.all_standings())])
 

@@ -2,7 +2,11 @@
 
 from deepstands.kinds import FULL_SORTS, MARKER_SORTS
 
+MOST_FACTS = 12
+MOST_HAPPENINGS = 20
+MOST_STANDS = 60
 MOST_DEEP = 10
+MOST_MOVES = 120
 
 
 class Tree:
@@ -20,6 +24,8 @@ class Tree:
         self.markers = {}
         self.greatest = {}
         self.moving = []
+        # The numbers of those that have deeds that are done when they are left.
+        self.outs = []
         # Their numbers by their names.
         self.numbers = {}
 
@@ -55,57 +61,81 @@ class Tree:
             least = self.above[least]
         return self.stands[least][1] == "all"
 
-    def room(self, number, goals):
+    def are_together(self, numbers):
+        """Whether any two of these are so together."""
+        # The least stand that has two of them is that of two others that stand between these, or has it in it: so only
+        # those that are next to one another in the chart's order are looked at.
+        in_order = sorted(numbers)
+        for one, other in zip(in_order, in_order[1:]):
+            if not self.together(one, other):
+                return False
+        return True
+
+    def least_room(self, number, goals):
         """The least one that has the stand and all goals properly in it, else the root, by their numbers."""
+        first, last = min(goals), max(goals)
         above = self.above[number]
         while above is not None:
-            if self.stands[above][1] == "one" and all([self.has(above, goal) for goal in goals]):
+            if self.stands[above][1] == "one" and above < first and last <= self.last[above]:
                 return above
             above = self.above[above]
         return 0
 
     def take_stands(self, stands, above, deep, deeds):
-        """Notes stands that stand straight in one, so deep, and all in them, and puts the deeds of their intos and
-        outs to those. Told is whether all are made as one of their sort is, and none is too deep."""
-        names, numbers, all_stands = self.names, self.numbers, self.stands
+        """Notes stands straight in one, so deep, and all in them, and puts the deeds of their intos and outs to those.
+        Told is whether all are made as their sort is, none too deep; where markers stand isn't looked at, nor names."""
+        names, all_stands, all_above, all_last = self.names, self.stands, self.above, self.last
         for stand in stands:
             if not isinstance(stand, tuple) or len(stand) != 6:
                 return False
             name, sort, inner, into, out, moves = stand
-            if not isinstance(name, str) or not isinstance(inner, tuple) or not isinstance(moves, tuple):
-                return False
-            if not isinstance(into, tuple) or not isinstance(out, tuple):
+            if not isinstance(name, str):
                 return False
             number = len(names)
             names.append(name)
-            numbers[name] = number
             all_stands.append(stand)
-            self.above.append(above)
-            self.last.append(number)
-            if moves:
+            all_above.append(above)
+            all_last.append(number)
+            # Of what is empty it takes less time to tell whether it is ().
+            if moves and isinstance(moves, tuple):
                 self.moving.append((number, moves))
-            if into or out:
+            elif moves != ():
+                return False
+            if (into or out) and isinstance(into, tuple) and isinstance(out, tuple):
                 deeds.extend(into + out)
+                if out:
+                    self.outs.append(number)
+            elif into != () or out != ():
+                return False
             if sort == "leaf" or sort == "end":
-                if inner:
+                if inner != ():
                     return False
             elif sort == "one" or sort == "all":
-                if not inner or deep == MOST_DEEP or not self.take_stands(inner, number, deep + 1, deeds):
+                if not isinstance(inner, tuple) or inner == () or deep == MOST_DEEP:
                     return False
-                self.last[number] = len(names) - 1
-                if number in self.markers and not self.has_place_for(number):
+                if not self.take_stands(inner, number, deep + 1, deeds):
                     return False
-            elif sort != "back" and sort != "deep" or inner or into or out or moves or above is None:
+                all_last[number] = len(names) - 1
+            elif sort != "back" and sort != "deep" or inner != () or into != () or out != () or moves != ():
                 return False
             else:
                 self.markers.setdefault(above, []).append(number)
         return True
 
-    def has_place_for(self, number):
-        """Whether the markers straight in a stand may stand there: in a one, one of each sort, beside others."""
-        sorts = [self.stands[marker][1] for marker in self.markers[number]]
-        stand = self.stands[number]
-        return stand[1] == "one" and len(set(sorts)) == len(sorts) and len(sorts) < len(stand[2])
+    def number_names(self):
+        """Notes the numbers of stands by their names."""
+        self.numbers = dict(zip(self.names, range(len(self.names))))
+
+    def are_markers_placed(self):
+        """Whether all markers stand where they may: in a one, one of each sort, beside others."""
+        for above, markers in self.markers.items():
+            if above is None:
+                return False
+            sorts = [self.stands[marker][1] for marker in markers]
+            stand = self.stands[above]
+            if stand[1] != "one" or len(set(sorts)) < len(sorts) or len(sorts) == len(stand[2]):
+                return False
+        return True
 
     def may_be_done(self, number):
         """Whether a done of the stand can come."""

@@ -4,8 +4,8 @@ from deepstands.errors import NoBack, NoHappening, NoLead, NoRun, NoTitle, Taken
 from deepstands.kinds import LETTERS, own
 from deepstands.lead import Lead
 from deepstands.moment import begun, stepped
-from deepstands.plan import plan_of
-from deepstands.standings import standing_of, state_of
+from deepstands.plan import shared_plan_of, what_of
+from deepstands.standings import standing_of
 from deepstands.texts import read_chart
 
 MOST_LETTERS = 8
@@ -24,15 +24,15 @@ class Page:
     def __init__(self, text):
         self.lines = list(text)
         self.whole = read_chart(self.lines)
-        self.plan = plan_of(self.whole)
+        self.plan = shared_plan_of(self.whole)
 
 
 class Line:
-    """A run: the state that it has come to, and what was said at its begin and by each step."""
+    """A run: the code that it has come to, and what was said at its begin and by each step."""
 
-    def __init__(self, moment):
-        self.now = moment.state()
-        self.heard = [moment.heard]
+    def __init__(self, done):
+        self.now, said = done
+        self.heard = [said]
 
 
 class Workshop:
@@ -56,22 +56,22 @@ class Workshop:
             raise NoTitle(own(title))
         if title in self.lines_by:
             raise Taken(title)
-        moment = begun(self.page.plan)
-        self.lines_by[title] = Line(moment)
+        line = Line(begun(self.page.plan))
+        self.lines_by[title] = line
         self.done.append((("start", title), None))
-        return list(moment.heard)
+        return list(line.heard[0])
 
     def tell(self, title, happening):
         """Does a step of a run; told is what it said."""
         line = self.line_of(title)
         if not self.page.plan.knows_happening(happening):
             raise NoHappening(own(happening))
-        moment = stepped(self.page.plan, line.now, happening)
+        behind, said = stepped(self.page.plan, line.now, what_of(happening))
         deed = ("tick", title) if happening == "tick" else ("tell", title, happening)
         self.done.append((deed, line.now))
-        line.now = moment.state()
-        line.heard.append(moment.heard)
-        return list(moment.heard)
+        line.now = behind
+        line.heard.append(said)
+        return list(said)
 
     def tick(self, title):
         """Does a tick of a run; told is what it said."""
@@ -90,21 +90,20 @@ class Workshop:
         page = Page(text)
         led = {}
         for title in self.titles():
-            standing = standing_of(self.page.plan, self.lines_by[title].now)
-            target, wrong = Lead(self.page.plan, page.plan, standing, {} if names is None else names).outcome()
+            lead = Lead(self.page.plan, page.plan, self.lines_by[title].now, {} if names is None else names)
+            led[title], wrong = lead.outcome()
             if wrong is not None:
                 raise NoLead(title, wrong)
-            led[title] = state_of(page.plan, target)
         ahead = {title: self.lines_by[title].now for title in led}
         self.done.append((("edit", len(page.lines)), (self.page, ahead)))
         self.put(page, led)
 
-    def put(self, page, states):
-        """Has all runs go on by another text, from these states by their titles."""
+    def put(self, page, codes):
+        """Has all runs go on by another text, from these codes by their titles."""
         self.page = page
-        for title in states:
+        for title in codes:
             line = self.lines_by[title]
-            line.now = states[title]
+            line.now = codes[title]
 
     def stop(self, title):
         """Ends a run."""

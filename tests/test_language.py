@@ -137,6 +137,16 @@ class TestLanguage(unittest.TestCase):
                 if isinstance(node, ast.Call) and isinstance(node.func, ast.Attribute):
                     self.assertIn(node.func.attr, METHODS | own | {"__init__"})
 
+    def test_methods_are_called_where_they_stand(self):
+        """L25: none is taken as a value, and called further down by another name."""
+        own = {inner.name for _, _, tree in self.each() for node in ast.walk(tree) if isinstance(node, ast.ClassDef)
+               for inner in node.body if isinstance(inner, ast.FunctionDef)}
+        for path, _, tree in self.each():
+            called = {id(node.func) for node in ast.walk(tree) if isinstance(node, ast.Call)}
+            for node in ast.walk(tree):
+                if isinstance(node, ast.Attribute) and node.attr in own | METHODS:
+                    self.assertIn(id(node), called, (path.name, node.lineno, node.attr))
+
     def test_no_name_is_a_method_and_an_attribute(self):
         methods, attributes, read = set(), set(), set()
         for _, _, tree in self.each():

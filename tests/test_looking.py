@@ -7,10 +7,8 @@ import unittest
 
 from deepstands.alike import alike, alike_wrong, apart, lots
 from deepstands.charts import chart_wrong, names_of, parent_of, room_of, sort_of, within
-from deepstands.checks import tree_of_right
 from deepstands.code import Coded, code, code_text, read_code
 from deepstands.errors import Endless, NoChart
-from deepstands.faults import first_fault
 from deepstands.reach import reach
 from deepstands.runs import Run
 from deepstands.sayings import judged, settled
@@ -20,6 +18,7 @@ from deepstands.trials import cover_wrong, idle, trials
 
 from helpers import YES, Maker, chart, move, one, stand
 from plain import Wild
+from wrongs import wrong_of
 
 LEAF_ROW = "go on go1 if in a1 and not n + 1 < m - 2 or yes do set n n + 1, say hello m - ( n - 1 ) to a2"
 
@@ -75,6 +74,17 @@ def wanted_at(place):
     return ("stand", tuple(address))
 
 
+def takes_at_most(test, seconds, many, ask, *args):
+    """The quickest of three loops counts: a machine that is busy for a while spoils one."""
+    taken = []
+    for _ in range(3):
+        before = time.perf_counter()
+        for _ in range(many):
+            ask(*args)
+        taken.append(time.perf_counter() - before)
+    test.assertLess(min(taken), seconds)
+
+
 class TestLikeWhatIsRight(unittest.TestCase):
     def test_the_chart_is_one(self):
         self.assertIsNone(chart_wrong(GREAT))
@@ -126,6 +136,8 @@ class TestLikeWhatIsRight(unittest.TestCase):
 
 
 class TestQuickAndSlow(unittest.TestCase):
+    """chart_wrong looks for the first that is wrong among halves of what there is; wrongs.py goes through all of it."""
+
     def spoiled(self, by, chart):
         """A chart with a part in another one's place, or something strange there."""
         where = places(chart)
@@ -133,34 +145,70 @@ class TestQuickAndSlow(unittest.TestCase):
         thing = replaced(chart, by.choice(where), by.choice([at(chart, by.choice(where)), by.choice(strange)]))
         return thing if by.randint(0, 3) else replaced(thing, by.choice(places(thing)), by.choice(strange))
 
-    def test_the_quick_look_lets_by_just_what_has_no_fault(self):
+    def renamed(self, by, chart):
+        """A chart with a name in another one's place."""
+        names = [place for place in places(chart) if isinstance(at(chart, place), str)]
+        words = ["zz", "tick", "one", "all", "leaf", "end", "back", "deep", at(chart, by.choice(names))]
+        return replaced(chart, by.choice(names), by.choice(words))
+
+    def changed(self, by, chart):
+        """A chart with another stand, a marker, a done or one more goal somewhere."""
+        tuples = [place for place in places(chart) if isinstance(at(chart, place), tuple) and place[:1] == (2,)]
+        stands = [place for place in tuples if len(at(chart, place)) == 6]
+        moves = [place for place in tuples if len(at(chart, place)) == 4]
+        place, pick = by.choice(stands), by.randint(0, 3)
+        name, sort, inner, *rest = at(chart, place)
+        new = by.choice([stand("m1", "back"), stand("m2", "deep"), at(chart, by.choice(stands))])
+        if pick < 2 and isinstance(inner, tuple):
+            return replaced(chart, place, (name, sort, by.choice([inner + (new,), (new,)]), *rest))
+        if not moves:
+            return chart
+        place = by.choice(moves)
+        when, guard, deeds, goals = at(chart, place)
+        if pick == 2 or not isinstance(goals, tuple):
+            return replaced(chart, place, (("done",), guard, deeds, goals))
+        return replaced(chart, place, (when, guard, deeds, goals + (at(chart, by.choice(stands))[0],)))
+
+    def test_the_first_that_is_wrong(self):
         seen = {}
-        for seed in range(120):
+        for seed in range(150):
             by = random.Random(seed)
             chart = by.choice([Wild, Maker])(seed).chart()
-            self.assertIsNotNone(tree_of_right(chart))
-            for _ in range(25):
-                thing = self.spoiled(by, chart)
-                wrong = first_fault(thing)
-                self.assertEqual(tree_of_right(thing) is None, wrong is not None, thing)
-                self.assertEqual(chart_wrong(thing), wrong)
+            self.assertIsNone(wrong_of(chart))
+            self.assertIsNone(chart_wrong(chart))
+            for pick in range(40):
+                thing = chart
+                for _ in range(by.randint(1, 3)):
+                    thing = [self.spoiled, self.renamed, self.changed][pick % 3](by, thing)
+                    if not isinstance(thing, tuple) or len(thing) != 3:
+                        break
+                wrong = wrong_of(thing)
+                self.assertEqual(chart_wrong(thing), wrong, thing)
                 seen[wrong and wrong[0]] = seen.get(wrong and wrong[0], 0) + 1
-        for word in (None, "chart", "fact", "happening", "stand", "twice", "goal", "in", "done"):
+        for word in (None, "chart", "fact", "happening", "stand", "twice", "first", "marker", "goal", "in", "done"):
             self.assertGreater(seen.get(word, 0), 0, seen)
+
+    def test_one_wrong_row_of_many_stands(self):
+        """Wherever it stands it is found, and told rather than any behind it."""
+        kinds = {
+            "fact": move(deeds=[("say", "s", ("fact", "zz"))]), "happening": move(("on", "zz")),
+            "in": move(guard=("not", ("in", "zz"))), "goal": move(goals=["zz"]), "done": move(("done",)),
+        }
+        for many in (1, 2, 3, 7, 20):
+            for k in range(many):
+                for word in kinds:
+                    wrong = {k: kinds[word], **{j: kinds["fact"] for j in range(k + 1, many, 4)}}
+                    leaves = [stand(f"x{j}", moves=[move(), wrong.get(j, move())]) for j in range(many)]
+                    self.assertEqual(chart_wrong(chart(one("r", *leaves))), (word, f"x{k}", 3))
+                    leaves[k] = stand(f"x{k}", into=[("say", "s", ("num", True))], moves=[kinds[word]])
+                    self.assertEqual(chart_wrong(chart(one("r", *leaves))), ("stand", (k,)))
 
 
 class TestTime(unittest.TestCase):
     """Limits that a busy machine keeps, and that a look at each part for each sign and name doesn't."""
 
     def takes_at_most(self, seconds, many, ask, *args):
-        """The quickest of three loops counts: a machine that is busy for a while spoils one."""
-        taken = []
-        for _ in range(3):
-            before = time.perf_counter()
-            for _ in range(many):
-                ask(*args)
-            taken.append(time.perf_counter() - before)
-        self.assertLess(min(taken), seconds)
+        takes_at_most(self, seconds, many, ask, *args)
 
     def test_looking_over(self):
         self.takes_at_most(0.6, 2000, chart_wrong, GREAT)

@@ -1,6 +1,7 @@
 """standing_wrong: point 12."""
 
 import unittest
+from itertools import combinations
 
 from deepstands.errors import NoChart
 from deepstands.steps import standing_wrong, start
@@ -173,6 +174,41 @@ class TestStandingWrong(unittest.TestCase):
             with self.assertRaises(NoChart) as caught:
                 standing_wrong(thing, None)
             self.assertEqual(caught.exception.wrong, wrong)
+
+
+class TestAllNames(unittest.TestCase):
+    """Of all choices of names, in order, just those may be stood in that have one of each one and all of each all."""
+
+    CHART = read_chart([
+        "one top", "  all r", "    one p", "      leaf x", "      leaf y", "    all q", "      leaf u", "      leaf v",
+        "    one o", "      one i", "        leaf a", "        leaf b", "      leaf c", "  deep d",
+    ])
+    NAMES = ("top", "r", "p", "x", "y", "q", "u", "v", "o", "i", "a", "b", "c", "d")
+
+    def wanted(self):
+        inner = (("i", "a"), ("i", "b"), ("c",))
+        return {("top", "r", "p", x, "q", "u", "v", "o", *rest) for x in "xy" for rest in inner}
+
+    def test_stood(self):
+        found = set()
+        for many in range(len(self.NAMES) + 1):
+            for stood in combinations(self.NAMES, many):
+                told = standing_wrong(self.CHART, (stood, (), (), ()))
+                self.assertIn(told, (None, ("stood",)))
+                if told is None:
+                    found.add(stood)
+        self.assertEqual(found, self.wanted())
+
+    def test_kept(self):
+        stood = sorted(self.wanted())[0]
+        found = set()
+        for many in range(len(self.NAMES) + 1):
+            for names in combinations(self.NAMES, many):
+                told = standing_wrong(self.CHART, (stood, (), (), (("d", names),)))
+                self.assertIn(told, (None, ("kept",)))
+                if told is None:
+                    found.add(("top", *names))
+        self.assertEqual(found, self.wanted())
 
 
 if __name__ == "__main__":

@@ -147,6 +147,8 @@ class TestTrials(Refusing):
         ):
             self.assertEqual(tried(GATE, (row, told[:k] + [change] + told[k + 1:])), (k, word), change)
         self.assertEqual(tried(GATE, (row, [told[0], told[2], told[1]] + told[3:])), (1, "said"))
+        # Nothing is done by what is no happening.
+        self.assertEqual(tried(GATE, (row[:2] + ["zz"], told[:3] + [told[1]])), (3, "told"))
         row, told = trial_of(REFUSING, ["a", "b"])
         self.assertEqual(tried(REFUSING, (row, [told[0], told[2], told[1]])), (1, "told"))
         self.assertEqual(tried(REFUSING, (row, [told[0], ("told", [], ("r", "y")), told[2]])), (1, "told"))
